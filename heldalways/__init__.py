@@ -1,0 +1,1 @@
+"""Controllers that keep their rules whatever happens."""

@@ -1,0 +1,73 @@
+"""The names, parameters and defaults of the interface, and the file in which each is defined."""
+
+import importlib
+import inspect
+import unittest
+
+FUNCTIONS = {
+    "between": "between_answer(amount_web, move, amounts, answers)",
+    "bounds": "are_rows(value) is_setting(rows, value) is_point_walk(rows, value) is_point_ring(rows, value) "
+              "heaviest(rows) heaviest_walk(rows, one, other) ring_in(rows)",
+    "disk": "pending_places(events) cut_cells(cells, events, octets)",
+    "lexer": "marks_in(text)",
+    "webs": "quantity_number(web, name) state_number(web, name) moves_from(web, state) moves_to(web, state) "
+            "moves_named(web, name) reached(web, state) plain_rule(rule) sharp_rules(rules) sharpest(web) "
+            "without_moves(web, moves) with_move(web, move) renamed_web(web, quantities, states) "
+            "check_values(web, value) are_values(web, value)",
+    "amounts": "corners_of(amount_web, move) are_amounts(amount_web, move, value) rules_at(amount_web, move, amounts) "
+               "corner_places(amount_web) corner_web(amount_web) web_at(amount_web, picked) unseen_web(amount_web)",
+    "commands": "is_command(value) read_commands(text) show_command(command) show_commands(commands)",
+}
+CLASSES = {
+    "errors": "PlantError InvalidWeb(at) InvalidText(line, at) InvalidValues(at) InvalidRun(at) InvalidPaper(at) "
+              "InvalidNumber(word) Refused(word) Broken(word)",
+    "journal": "Journal(disk)",
+    "disk": "Disk(cells)",
+    "webs": "Web(quantities, states, moves)",
+    "amounts": "AmountWeb(quantities, states, moves)",
+}
+METHODS = {
+    ("journal", "Journal"): "records(self) write(self, record) drop(self, many) renew(self, records)",
+    ("disk", "Disk"): "look(self, at) put(self, at, octet) flush(self) events(self)",
+}
+
+
+def parts(text):
+    """The names of a row of signatures, and what stands in their brackets."""
+    found = []
+    for part in text.replace(", ", ",").split(" "):
+        name, _, rest = part.partition("(")
+        found.append((name, "(" + rest.replace(",", ", ") if rest else None))
+    return found
+
+
+class Interface(unittest.TestCase):
+    def test_functions(self):
+        for module, text in FUNCTIONS.items():
+            for name, signature in parts(text):
+                found = getattr(importlib.import_module(f"heldalways.{module}"), name)
+                self.assertTrue(inspect.isfunction(found), name)
+                self.assertEqual(found.__module__, f"heldalways.{module}")
+                self.assertEqual(str(inspect.signature(found)), signature, name)
+
+    def test_classes(self):
+        for module, text in CLASSES.items():
+            for name, signature in parts(text):
+                found = getattr(importlib.import_module(f"heldalways.{module}"), name)
+                self.assertTrue(inspect.isclass(found), name)
+                self.assertEqual(found.__module__, f"heldalways.{module}")
+                if signature is not None:
+                    self.assertEqual(str(inspect.signature(found)), signature, name)
+                if module != "errors":
+                    self.assertEqual(found.__bases__, (object,), name)
+
+    def test_methods(self):
+        for (module, name), text in METHODS.items():
+            found = getattr(importlib.import_module(f"heldalways.{module}"), name)
+            for method, signature in parts(text):
+                self.assertIn(method, vars(found))
+                self.assertEqual(str(inspect.signature(vars(found)[method])), signature, method)
+
+
+if __name__ == "__main__":
+    unittest.main()
