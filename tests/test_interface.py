@@ -17,6 +17,23 @@ FUNCTIONS = {
     "amounts": "corners_of(amount_web, move) are_amounts(amount_web, move, value) rules_at(amount_web, move, amounts) "
                "corner_places(amount_web) corner_web(amount_web) web_at(amount_web, picked) unseen_web(amount_web)",
     "commands": "is_command(value) read_commands(text) show_command(command) show_commands(commands)",
+    "hidden": "without_point(rows, point) seen_rows(rows, points) both_rows(one, other) either_rows(one, other)",
+    "hulls": "hull_rows(settings) mixture(settings, picks) picks_of(settings, value)",
+    "printer": "show_web(web) show_values(web, values) show_run(web, run) show_script(script)",
+    "shapes": "alike_states(web) joined_states(web) idle_moves(web) pieces_of(web) web_of(web, lot) turned_web(web) "
+              "moved_web(web, shifts) stretched_web(web, factor) turned_values(values) moved_values(values, shifts) "
+              "stretched_values(values, factor) placed_values(values, places) values_of(values, lot)",
+    "solving": "solution(rows, fixed) is_solution(rows, fixed, value) number_ranges(rows, fixed)",
+    "steps": "is_let(web, move, old, new) broken_rules(web, move, old, new) is_position(web, value) "
+             "is_script(web, state, value) end_state(web, state, script) check_run(web, value) "
+             "is_run(web, value, kept=True) positions_of(web, run) script_of(run) said_in(run) "
+             "run_by(position, script, said) first_break(web, run)",
+    "tours": "move_arcs(web, move) first_layer(web) layer_rows(web, layer) layers(web, most) keeps_rows(rows, values) "
+             "is_held_for(web, state, values, most)",
+    "answers": "move_rows(web, table, move) is_answer(web, table, values, move, value) "
+               "answer_ranges(web, table, values, move, said=None) some_answer(web, table, values, move, said=None)",
+    "boxes": "rows_in(box) boxed_web(web, box) held_in(web, box, most) ever_in(web, box) rounds_in(web, box) "
+             "ever_answer(web, box, move, old)",
 }
 CLASSES = {
     "errors": "PlantError InvalidWeb(at) InvalidText(line, at) InvalidValues(at) InvalidRun(at) InvalidPaper(at) "
@@ -24,6 +41,7 @@ CLASSES = {
     "journal": "Journal(disk)",
     "disk": "Disk(cells)",
     "webs": "Web(quantities, states, moves)",
+    "solving": "Solved(setting) Circled(walk) Clash(walk)",
     "amounts": "AmountWeb(quantities, states, moves)",
 }
 METHODS = {

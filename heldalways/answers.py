@@ -1,0 +1,60 @@
+"""What a controller with a right table may answer to a move."""
+
+from heldalways.bounds import is_setting
+from heldalways.errors import Refused
+from heldalways.hidden import greater
+from heldalways.kinds import are_integers
+from heldalways.solving import Solved, number_ranges, solution
+from heldalways.tours import keeps_rows, move_arcs
+
+
+def move_rows(web, table, move):
+    many = len(web.quantities)
+    rows = [[None] * (2 * many + 1) for _ in range(2 * many + 1)]
+    for side, one, far_side, other, weight, _ in move_arcs(web, move):
+        begin = point_of(many, side, one)
+        end = point_of(many, far_side, other)
+        rows[begin][end] = greater(rows[begin][end], weight)
+    for one, row in enumerate(table[web.moves[move][2]]):
+        for other, entry in enumerate(row):
+            begin = point_of(many, "new", one)
+            end = point_of(many, "new", other)
+            rows[begin][end] = greater(rows[begin][end], entry)
+    return tuple([tuple(row) for row in rows])
+
+
+def point_of(many, side, number):
+    """The point of a move for the ground or a quantity, old or new."""
+    return number + many if side == "new" and number > 0 else number
+
+
+def is_answer(web, table, values, move, value):
+    if not are_integers(value, len(web.quantities)):
+        return False
+    return is_setting(move_rows(web, table, move), (0, *values, *value))
+
+
+def fixed_numbers(web, table, values, move, said):
+    """The numbers of the points of a move that are known; refused if the table is not kept."""
+    if not keeps_rows(table[web.moves[move][1]], values):
+        raise Refused("held")
+    if said is None:
+        said = (None,) * len(values)
+    return (0, *values, *said)
+
+
+def answer_ranges(web, table, values, move, said=None):
+    fixed = fixed_numbers(web, table, values, move, said)
+    try:
+        ranges = number_ranges(move_rows(web, table, move), fixed)
+    except Refused:
+        raise Refused("said") from None
+    return ranges[len(values) + 1:]
+
+
+def some_answer(web, table, values, move, said=None):
+    fixed = fixed_numbers(web, table, values, move, said)
+    found = solution(move_rows(web, table, move), fixed)
+    if not isinstance(found, Solved):
+        raise Refused("said")
+    return found.setting[len(values) + 1:]
