@@ -46,9 +46,7 @@ def walk_weight(rows, walk):
 
 
 def is_point_ring(rows, value):
-    if not is_point_walk(rows, value) or len(value) < 2:
-        return False
-    return value[0] == value[-1] and walk_weight(rows, value) > 0
+    return is_point_walk(rows, value) and value[0] == value[-1] and walk_weight(rows, value) > 0
 
 
 def heaviest(rows):
@@ -58,13 +56,12 @@ def heaviest(rows):
         if best[at][at] is None or best[at][at] < 0:
             best[at][at] = 0
     for middle in range(many):
+        # Some ring has this point as its last one, in the sequence of points.
         if best[middle][middle] > 0:
             return None
         for one in range(many):
-            if best[one][middle] is not None:
+            if one != middle and best[one][middle] is not None:
                 raise_row(best[one], best[middle], best[one][middle])
-    if any([best[at][at] > 0 for at in range(many)]):
-        return None
     return tuple([tuple(row) for row in best])
 
 

@@ -63,7 +63,7 @@ def idle_moves(web):
     for at, move in enumerate(web.moves):
         for one, stand in enumerate(web.moves):
             alike = stand[1] == move[1] and numbers[stand[2]] == numbers[move[2]]
-            if one != at and alike and asks_more(sharp[one], sharp[at]):
+            if alike and asks_more(sharp[one], sharp[at]):
                 if at not in idle and (one < at or not asks_more(sharp[at], sharp[one])):
                     idle.append(at)
     return tuple(idle)

@@ -45,6 +45,17 @@ class Point56(unittest.TestCase):
         web = AmountWeb(quantities=("level",), states=("now", "then"), moves=moves)
         self.assertEqual((web.quantities, web.states, web.moves), (("level",), ("now", "then"), moves))
 
+    def test_equality(self):
+        self.assertTrue(BOTH == AmountWeb(("x", "y"), ("off", "on"), BOTH.moves))
+        self.assertFalse(BOTH != AmountWeb(("x", "y"), ("off", "on"), BOTH.moves))
+        for parts in ((("x", "z"), ("off", "on"), BOTH.moves), (("x", "y"), ("off", "om"), ()), (("x", "y"), ("off", "on"), ())):
+            self.assertFalse(BOTH == AmountWeb(*parts))
+        bare = AmountWeb((), ("a",), ())
+        self.assertFalse(bare == AmountWeb((), ("b",), ()) or bare == AmountWeb(("x",), ("a",), ()))
+        for value in [*STRANGE, None, Web((), ("a",), ())]:
+            if told(value) not in ("Yes", "Loud"):
+                self.assertFalse(bare == value)
+
     def test_as_webs(self):
         self.wrong(-3, ("b", "a"), (), None)
         self.wrong(-2, ("a",), (), None)

@@ -17,7 +17,7 @@ RIGHT = (
     (("add", "m", "p", "q"), "add m p q"), (("bar", 5), "bar 5"), (("state", "abcdef"), "state abcdef"),
     (("quantity", "x", -5), "quantity x -5"), (("quantity", "x", MOST), "quantity x 1000000"),
     (("leave", "x"), "leave x"), (("now",), "now"), (("may", 2, ()), "may 2"),
-    (("may", 2, (("x", 1), ("y", -2))), "may 2 x 1 y -2"), (("bear", 7, "fall", "x", "y", -3), "bear 7 fall x y -3"),
+    (("may", 2, (("x", 1), ("y", -2))), "may 2 x 1 y -2"), (("bear", 0, "now", "0", "0", 1000), "bear 0 now 0 0 1000"), (("bear", 7, "fall", "x", "y", -3), "bear 7 fall x y -3"), (("bear", 0, "rise", "a", "b", -1000), "bear 0 rise a b -1000"),
     (("range", 4), "range 4"), (("hold", "p", ()), "hold p"), (("hold", "p", (("x", 4),)), "hold p x 4"),
 )
 
@@ -40,7 +40,9 @@ class Point79(unittest.TestCase):
                 ("add", "m", "p"), ("add", "m", "p", "q", "r"), ("add", "m", 0, 0), ("add", "m", "p", "0"), ("bar", 40), ("bar",),
                 ("state",), ("state", "abcdefg"), ("state", ""), ("state", "0"), ("quantity", "x"), ("quantity", "x", MOST + 1),
                 ("quantity", "x", -MOST - 1), ("quantity", "0", 1), ("leave", "x", "y"), ("leave", "0"), ("now", 0), ("now", ()),
-                ("may", 2), ("may", "2", ()), ("bear", 0, "now", "x", "y", 2000), ("range", 40), ("range",), ("hold", "p"),
+                ("may", 2), ("may", "2", ()), ("bear", 0, "now", "x", "y", 2000),
+                ("bear", 0, "up", "x", "y", 2), ("bear", 0, "now", "1", "y", 2), ("bear", 0, "now", "x", 0, 2), ("bear", 40, "now", "x", "y", 2),
+                ("add", "0", "p", "q"), ("add", "m", "0", "q"), ("hold", "p", [("x", 1)]), ("may", 2, (("x", 10 ** 7),)), ("range", 40), ("range",), ("hold", "p"),
                 ("hold", 0, ()), ("hold", "0", ()), ("hold", "p", (("x", None),)), (), ("",), (None,), "now", ["now"], b"now"):
             self.assertIs(is_command(value), False, told(value))
         for value in ODD:

@@ -115,8 +115,12 @@ class Point74(unittest.TestCase):
             self.refused("room", journal.write, (1,) * cells)
 
     def test_long_records(self):
-        record = tuple([at % 256 for at in range(9984)])
         journal = Journal(Disk((0,) * 20000))
+        for many in (254, 255, 256, 257, 511, 512, 4999, 9983):
+            journal.renew((tuple([at * at % 256 for at in range(many)]),))
+            self.assertEqual(Journal(journal.disk).records(), (tuple([at * at % 256 for at in range(many)]),))
+        journal.renew(())
+        record = tuple([at % 256 for at in range(9984)])
         self.assertTrue(room(20000, (record,)))
         journal.write(record)
         journal.renew((record,))
@@ -126,16 +130,38 @@ class Point74(unittest.TestCase):
         self.refused("room", journal.write, record)
 
     def test_filled_without_a_promise(self):
-        journal = Journal(Disk((0,) * 101))
-        kept = []
-        for at in range(300):
-            record = (at % 250,) * (at % 5)
+        # To the last cell, whatever number of renewals came before.
+        for cells in range(40, 60):
+            for renewals in range(4):
+                journal = Journal(Disk((0,) * cells))
+                for _ in range(renewals):
+                    journal.renew(((9, 9),))
+                kept = list(journal.records())
+                for at in range(60):
+                    record = (at % 250,) * (5 - at // 12)
+                    try:
+                        journal.write(record)
+                        kept.append(record)
+                    except Refused as error:
+                        self.assertEqual(error.word, "room")
+                    self.assertEqual(Journal(Disk(present(journal.disk))).records(), tuple(kept))
+                self.filled(journal, tuple(kept))
+
+    def filled(self, journal, records):
+        """A full journal is renewed, and cut meanwhile."""
+        cells = present(journal.disk)
+        for behind in (records, ((7,) * 9,), ()):
+            disk = Disk(cells)
             try:
-                journal.write(record)
-                kept.append(record)
+                Journal(disk).renew(behind)
             except Refused as error:
-                self.assertEqual(error.word, "room")
-            self.assertEqual(Journal(Disk(present(journal.disk))).records(), tuple(kept))
+                self.assertEqual((error.word, disk.events()), ("room", ()))
+            events = disk.events()
+            for many in range(len(events)):
+                places = pending_places(events[:many])
+                for octet in (0, 1, 200):
+                    left = Journal(Disk(cut_cells(cells, events[:many], (octet,) * len(places)))).records()
+                    self.assertIn(left, (records, behind))
 
     def test_other_cells(self):
         draw = random.Random(2)

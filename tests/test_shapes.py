@@ -128,6 +128,8 @@ class Point9Pieces(Shapes):
         self.assertEqual(shapes.pieces_of(web(("now", 2, 5, -9), ("fall", 6, 5, 0))), ((1,), (2, 5, 6), (3,), (4,)))
         self.assertEqual(shapes.pieces_of(web(("now", 0, 5, 0), ("rise", 6, 0, 0), ("now", 3, 3, 1))),
                          ((1,), (2,), (3,), (4,), (5,), (6,)))
+        grounded = [("now", 0, at, 0) for at in range(1, 7)] + [("rise", at, 0, 0) for at in range(1, 7)]
+        self.assertEqual(shapes.pieces_of(web(*grounded)), ((1,), (2,), (3,), (4,), (5,), (6,)))
         self.assertEqual(shapes.pieces_of(web(("rise", 6, 1, 0), ("now", 2, 4, 0), ("fall", 4, 6, 0))),
                          ((1, 2, 4, 6), (3,), (5,)))
         self.assertEqual(shapes.pieces_of(Web((), ("a",), ())), ())
