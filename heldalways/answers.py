@@ -34,10 +34,14 @@ def is_answer(web, table, values, move, value):
     return is_setting(move_rows(web, table, move), (0, *values, *value))
 
 
-def fixed_numbers(web, table, values, move, said):
-    """The numbers of the points of a move that are known; refused if the table is not kept."""
+def check_held(web, table, values, move):
     if not keeps_rows(table[web.moves[move][1]], values):
         raise Refused("held")
+
+
+def fixed_numbers(web, table, values, move, said):
+    """The numbers of the points of a move that are known; refused if the table is not kept."""
+    check_held(web, table, values, move)
     if said is None:
         said = (None,) * len(values)
     return (0, *values, *said)

@@ -18,24 +18,18 @@ def rule_named(web, move, step):
     return None if number is None else rules[number]
 
 
-def arc_into(web, move, point, step):
-    """Where an arc from an old point leads, and its weight; None for any other value."""
+def outer_arc(web, move, kind, point, step):
+    """Where an arc leads from a point, "rise" into the new ones or "fall" back, and its weight.
+
+    None for any other value as the step.
+    """
     if point == 0 and step_number(step, "ground", 1) == 0:
         return 0, 0
     rule = rule_named(web, move, step)
-    if rule is None or rule[0] != "rise" or rule[1] != point:
+    if rule is None or rule[0] != kind:
         return None
-    return rule[2], rule[3]
-
-
-def arc_back(web, move, point, step):
-    """Where an arc from a new point to an old one leads, and its weight; None for any other value."""
-    if point == 0 and step_number(step, "ground", 1) == 0:
-        return 0, 0
-    rule = rule_named(web, move, step)
-    if rule is None or rule[0] != "fall" or rule[2] != point:
-        return None
-    return rule[1], rule[3]
+    begin, end = (rule[1], rule[2]) if kind == "rise" else (rule[2], rule[1])
+    return (end, rule[3]) if begin == point else None
 
 
 def arc_between(web, items, state, move, point, step):
@@ -70,13 +64,13 @@ def walk_along(web, items, state, move, begin, steps):
 
 def excursion_told(web, items, one, move, steps):
     """Where an excursion by a move from a point leads, its weight and depth; None for wrong steps."""
-    first = arc_into(web, move, one, steps[0])
+    first = outer_arc(web, move, "rise", one, steps[0])
     if first is None:
         return None
     walk = walk_along(web, items, web.moves[move][2], move, first[0], steps[1:-1])
     if walk is None:
         return None
-    last = arc_back(web, move, walk[0], steps[-1])
+    last = outer_arc(web, move, "fall", walk[0], steps[-1])
     if last is None:
         return None
     return last[0], first[1] + walk[1] + last[1], walk[2] + 1

@@ -5,7 +5,7 @@ from heldalways.errors import Refused
 from heldalways.excursions import tours_in
 from heldalways.hidden import both_rows
 from heldalways.tours import check_most, joined_rows, move_arcs, move_frames
-from heldalways.webs import moves_from
+from heldalways.webs import moves_from, reached
 
 
 def named_arcs(web, move):
@@ -188,23 +188,30 @@ def next_level(arcs, items, level, rings, states):
     return behind, found
 
 
+def every_state(web):
+    return tuple([state for state in range(len(web.states))])
+
+
 def next_items(web, items, level, broken=()):
     found = list(items)
     rings = {state: () for state in broken}
-    behind, _ = next_level(Arcs(web), found, level, rings, list(range(len(web.states))))
+    behind, _ = next_level(Arcs(web), found, level, rings, every_state(web))
     return tuple(found), behind
 
 
-def climb(web, most):
-    """Items, the levels for 0 to `most` moves, and a ring for each state without rows in the last layer."""
+def climb(web, most, states):
+    """Items, the levels for 0 to `most` moves, and a ring for each state without rows in the last layer.
+
+    For a lot of states with all that are reached from them.
+    """
     arcs = Arcs(web)
     items = []
     levels = [{}]
     rings = {}
     while len(levels) <= most:
-        states = [state for state in range(len(web.states)) if state not in rings]
-        level, found = next_level(arcs, items, levels[-1], rings, states)
-        for state in states:
+        whole = [state for state in states if state not in rings]
+        level, found = next_level(arcs, items, levels[-1], rings, whole)
+        for state in whole:
             inside = inside_state(web, items, level, state)
             if state not in found and inside.best is None:
                 found[state] = (state, None, *ring_told(inside, {}, level, state))
@@ -222,7 +229,7 @@ def climb(web, most):
 
 def best_items(web, most):
     check_most(most)
-    items, levels, _ = climb(web, most)
+    items, levels, _ = climb(web, most, every_state(web))
     return tuple(items), tuple(levels)
 
 
@@ -241,9 +248,16 @@ def few_items(items, numbers):
     return tuple(few), tuple([places[number] for number in numbers])
 
 
+def few_steps(items, steps):
+    """The items that some steps name and all that they are made of, and the steps that name them there."""
+    numbers = tours_in(steps)
+    few, places = few_items(items, numbers)
+    return few, renumbered(steps, dict(zip(numbers, places)))
+
+
 def heaviest_tour(web, state, one, other, most):
     check_most(most)
-    items, levels, rings = climb(web, most)
+    items, levels, rings = climb(web, most, reached(web, state))
     if state in rings:
         raise Refused("ring")
     level = levels[-1]
@@ -256,10 +270,9 @@ def heaviest_tour(web, state, one, other, most):
 
 def first_ring(web, state, most):
     check_most(most)
-    items, _, rings = climb(web, most)
+    items, _, rings = climb(web, most, reached(web, state))
     if state not in rings:
         return None
     place, move, begin, steps = rings[state]
-    numbers = tours_in(steps)
-    few, found = few_items(items, numbers)
-    return few, place, move, begin, renumbered(steps, dict(zip(numbers, found)))
+    few, named = few_steps(items, steps)
+    return few, place, move, begin, named

@@ -2,6 +2,7 @@
 
 from itertools import product
 
+from heldalways.tours import move_arcs
 from heldalways.webs import Web
 
 NAMES = ("a", "b", "c", "d", "e", "f")
@@ -36,6 +37,32 @@ def drifting_web():
     rules += [("fall", at, at % 6 + 1, -999990 + at) for at in range(1, 7)]
     rules += [("now", at, (at + by) % 6 + 1, -900000 + at * by) for at in range(1, 7) for by in (1, 2)]
     return Web(NAMES, STATES, tuple([("m", at % 8, (3 * at + 1) % 8, tuple(rules)) for at in range(40)]))
+
+
+def random_items(random, web, wanted):
+    """Right items, each made of earlier ones drawn at random, perhaps fewer than wanted."""
+    arcs = [move_arcs(web, move) for move in range(len(web.moves))]
+    items = []
+    for _ in range(20 * wanted):
+        move = random.randrange(len(web.moves))
+        _, start, end, _ = web.moves[move]
+        _, one, _, at, weight, step = random.choice([arc for arc in arcs[move] if arc[0] == "old"])
+        steps, depth = [step], 1
+        for _ in range(random.randrange(4)):
+            inner = [(arc[3], arc[4], arc[5], 0) for arc in arcs[move] if arc[0] == arc[2] == "new" and arc[1] == at]
+            inner += [(item[2], item[4], ("tour", number), item[3]) for number, item in enumerate(items)
+                      if item[0] == end and item[1] == at] * 2
+            if inner:
+                at, more, step, deep = random.choice(inner)
+                weight, depth = weight + more, max(depth, deep + 1)
+                steps.append(step)
+        back = [arc for arc in arcs[move] if arc[2] == "old" and arc[1] == at]
+        if back:
+            last = random.choice(back)
+            items.append((start, one, last[3], depth, weight + last[4], move, (*steps, last[5])))
+        if len(items) == wanted:
+            break
+    return tuple(items)
 
 
 def keeps(rules, old, new):

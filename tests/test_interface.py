@@ -56,6 +56,22 @@ FUNCTIONS = {
               "run_behind(web, table, state, script, goal, values=None)",
     "faults": "is_fault(web, table, value) fault_of(web, table)",
     "foresight": "can_hold_seeing(web, state, values, most, sight)",
+    "greedy": "least_answer(web, table, values, move) greatest_answer(web, table, values, move) "
+              "least_run(web, table, position, script) greatest_run(web, table, position, script) "
+              "higher_run(one, other) lower_run(one, other) first_odd(web, table, run)",
+    "pumps": "is_nested(items, outer, inner) nest_of(items, at) pump_in(items) is_pump(web, value) pump_gain(pump) "
+             "is_ring_paper(web, value)",
+    "slack": "slacks(table, state, values) heirs(web, table, move, one, other) "
+             "slack_range(web, table, values, move, one, other) heir_line(web, table, state, one, other, most)",
+    "staying": "clashing(web, table, values, move, wish) most_wishes(web, table, values, move, wish)",
+    "wishes": "least_distance(web, table, values, move, wish) near_answer(web, table, values, move, wish) "
+              "far_walk(web, table, values, move, wish) is_far_walk(web, table, values, move, wish, distance, value)",
+    "levelled": "pumped(pump, times) rounds_above(pump, difference) levelled(items) levelled_ring(ring)",
+    "settle": "depth_bound(web) settled_depth(web) enough_moves(web, state) final_rows(web)",
+    "court": "paper_state(web, paper) is_controller(web, value) is_verdict(web, value) "
+             "is_verdict_at(web, state, value) court(web) verdict_at(web, state) best_table(web) kept_states(web) "
+             "holds_ever(web, state, values)",
+    "attacks": "is_attack(web, state, values, value) most_moves(attack)",
 }
 CLASSES = {
     "errors": "PlantError InvalidWeb(at) InvalidText(line, at) InvalidValues(at) InvalidRun(at) InvalidPaper(at) "
@@ -66,6 +82,9 @@ CLASSES = {
     "solving": "Solved(setting) Circled(walk) Clash(walk)",
     "amounts": "AmountWeb(quantities, states, moves)",
     "faults": "Fault(move, walk)",
+    "pumps": "Ring(excursions, state, move, begin, steps) Pump(excursions, outer, inner)",
+    "court": "Controller(table)",
+    "attacks": "Heavy(excursions, at) Surge(excursions, nest, place, rounds) March(script, paper)",
 }
 METHODS = {
     ("journal", "Journal"): "records(self) write(self, record) drop(self, many) renew(self, records)",
