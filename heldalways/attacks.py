@@ -88,30 +88,17 @@ def is_attack(web, state, values, value):
     return isinstance(value, March) and is_march(web, state, value)
 
 
-def depth_beside(items, outer, inner):
-    """The greatest depth of what an item uses but for the first use of an inner one."""
-    used = tours_in(items[outer][6])
-    used.remove(inner)
-    return max([0, *[items[number][3] for number in used]])
-
-
-def depth_from(items, nest, place, bottom):
-    """The depth of the item of a nest at a place if what stands for the last one is so deep."""
-    depth = bottom
-    for at in range(len(nest) - 2, place - 1, -1):
-        depth = 1 + max(depth, depth_beside(items, nest[at], nest[at + 1]))
-    return depth
-
-
 def surge_depth(surge):
     """The depth of the item for which a surge stands, if that were written out."""
     items = surge.excursions
     nest = surge.nest
-    bottom = items[nest[-1]][3]
+    depth = items[nest[-1]][3]
     if surge.rounds > 1:
         # Behind its first round a pump is so deep that each one more adds just its nest.
-        bottom = items[nest[0]][3] + (surge.rounds - 2) * (len(nest) - 1)
-    return depth_from(items, nest, surge.place, bottom)
+        depth = items[nest[0]][3] + (surge.rounds - 2) * (len(nest) - 1)
+    for number in reversed(nest[surge.place:-1]):
+        depth = max(items[number][3], depth + 1)
+    return depth
 
 
 def most_moves(attack):

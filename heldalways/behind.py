@@ -36,7 +36,7 @@ def rows_along(web, table, script, rows):
     found = [rows]
     for move in script:
         many = len(rows) - 1
-        points = (0, *range(many + 1, 2 * many + 1))
+        points = [0, *list(range(many + 1, 2 * many + 1))]
         found.append(seen_rows(joint_rows(web, table, move, found[-1]), points))
     return found
 

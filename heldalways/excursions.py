@@ -118,9 +118,9 @@ def walk_told(web, items, state, move, begin, steps):
 
 
 def is_chain(web, items, state, one, other, chain):
-    if not isinstance(chain, tuple) or not all([is_index(number, len(items)) for number in chain]):
+    if not isinstance(chain, tuple):
         return False
-    found = walk_along(web, items, state, None, one, tuple([("tour", number) for number in chain]))
+    found = walk_along(web, items, state, None, one, [("tour", number) for number in chain])
     return found is not None and found[0] == other
 
 

@@ -22,14 +22,19 @@ def reach_of(web, most):
 
 
 def wider(web, span, most):
-    """The integers within reach of a span, or of the ground, when so many moves may come."""
+    """A span with all integers within reach of it when so many moves may come."""
     reach = reach_of(web, most)
-    return min(0, span[0]) - reach, max(0, span[1]) + reach
+    return span[0] - reach, span[1] + reach
+
+
+def span_around(values):
+    """The span of values and of the ground."""
+    return min([0, *values]), max([0, *values])
 
 
 def span_of(web, values, most):
     """The least and the greatest new value tried, however many these are."""
-    return wider(web, (min([0, *values]), max([0, *values])), most)
+    return wider(web, span_around(values), most)
 
 
 def check_size(web, values, most):
@@ -76,7 +81,7 @@ class Trial:
     """
 
     def __init__(self, web, values, most):
-        span = (min([0, *values]), max([0, *values]))
+        span = span_around(values)
         for left in range(most, 0, -1):
             span = wider(web, span, left)
         many = len(web.quantities)

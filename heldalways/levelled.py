@@ -63,7 +63,7 @@ class Levels:
     """
 
     def __init__(self):
-        self.items = []
+        self.made = []
         self.marks = []
         self.bits = {}
         self.places = []
@@ -74,30 +74,30 @@ def nested_alike(levels, numbers, bit):
     while True:
         inside = None
         for number in numbers:
-            if levels.bits[levels.items[number][:3]] == bit:
+            if levels.bits[levels.made[number][:3]] == bit:
                 return number
             if levels.marks[number] & bit:
                 inside = number
         if inside is None:
             return None
-        numbers = tours_in(levels.items[inside][6])
+        numbers = tours_in(levels.made[inside][6])
 
 
 def standing_for(levels, items, item):
     """An item made of those that stand for the ones of which the item is made."""
     steps = renumbered(item[6], levels.places)
-    gains = [levels.items[levels.places[number]][4] - items[number][4] for number in tours_in(item[6])]
-    return made_of(levels.items, item, steps, sum(gains))
+    gains = [levels.made[levels.places[number]][4] - items[number][4] for number in tours_in(item[6])]
+    return made_of(levels.made, item, steps, sum(gains))
 
 
 def add_item(levels, item):
     """Adds an item, and tells its number."""
     mark = 0
     for number in tours_in(item[6]):
-        mark = mark | levels.marks[number] | levels.bits[levels.items[number][:3]]
-    levels.items.append(item)
+        mark = mark | levels.marks[number] | levels.bits[levels.made[number][:3]]
+    levels.made.append(item)
     levels.marks.append(mark)
-    return len(levels.items) - 1
+    return len(levels.made) - 1
 
 
 def level_all(items):
@@ -111,8 +111,8 @@ def level_all(items):
         inner = nested_alike(levels, tours_in(made[6]), levels.bits[label])
         if inner is None:
             levels.places.append(add_item(levels, made))
-        elif levels.items[inner][4] < made[4]:
-            return levels, few_pump(levels.items, add_item(levels, made), inner)
+        elif levels.made[inner][4] < made[4]:
+            return levels, few_pump(levels.made, add_item(levels, made), inner)
         else:
             levels.places.append(inner)
     return levels, None
@@ -122,12 +122,12 @@ def levelled(items):
     levels, pump = level_all(items)
     if pump is not None:
         return pump
-    return few_items(levels.items, (levels.places[-1],))[0]
+    return few_items(levels.made, (levels.places[-1],))[0]
 
 
 def levelled_ring(ring):
     levels, pump = level_all(ring.excursions)
     if pump is not None:
         return pump
-    few, steps = few_steps(levels.items, renumbered(ring.steps, levels.places))
+    few, steps = few_steps(levels.made, renumbered(ring.steps, levels.places))
     return Ring(few, ring.state, ring.move, ring.begin, steps)

@@ -79,7 +79,7 @@ class RunReading:
         self.state = None
         self.heads = []
         self.said = []
-        self.values = None
+        self.line = None
 
     def take(self, mark):
         """Whether some text goes on with a mark behind those taken; then it is taken."""
@@ -99,14 +99,14 @@ class RunReading:
         """Takes the first mark of a line: the number of a state, later of a move."""
         self.state = self.web.moves[head][2] if self.heads else head
         self.heads.append(head)
-        self.values = ValuesReading(self.web)
+        self.line = ValuesReading(self.web)
         self.phase = "colon" if self.web.quantities else "values"
         return True
 
     def take_value(self, mark):
-        if mark != "\n" or self.values.lacking() != ():
-            return self.values.take(mark)
-        self.said.append(self.values.told())
+        if mark != "\n" or self.line.lacking() != ():
+            return self.line.take(mark)
+        self.said.append(self.line.told())
         self.phase = "line"
         return True
 
@@ -114,7 +114,7 @@ class RunReading:
         """Marks that make the text whole."""
         if self.phase == "line":
             return ()
-        values = self.values
+        values = self.line
         begin = ()
         if self.phase == "begun":
             values = ValuesReading(self.web)
@@ -124,7 +124,7 @@ class RunReading:
 
     def told(self):
         """The run of a whole text."""
-        said = self.said if self.phase == "line" else [*self.said, self.values.told()]
+        said = self.said if self.phase == "line" else [*self.said, self.line.told()]
         return (self.heads[0], said[0]), tuple(zip(self.heads[1:], said[1:]))
 
 

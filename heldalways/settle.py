@@ -32,7 +32,7 @@ def layers_of(web, states):
 
 
 def is_settled(found):
-    return found[-1] == found[-2] and None not in found[-1]
+    return found[-1] == found[-2]
 
 
 def paper_of(web, states, found):
@@ -40,7 +40,8 @@ def paper_of(web, states, found):
     deepest = len(found) - 1
     for state in states:
         if found[-1][state] is None:
-            return Ring(*first_ring(web, state, deepest))
+            ring = first_ring(web, state, deepest)
+            return Ring(*ring)
     return pump_within(web, states, deepest)
 
 

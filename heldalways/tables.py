@@ -10,7 +10,7 @@ from heldalways.webs import reached
 def are_closed(rows):
     """Whether rows have 0 from each point to itself, and no entry that two others surpass."""
     for at, row in enumerate(rows):
-        if row[at] is None or row[at] != 0:
+        if row[at] != 0:
             return False
         for middle, entry in enumerate(row):
             if entry is not None and not is_no_less(row, rows[middle], entry):

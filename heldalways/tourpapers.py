@@ -213,7 +213,7 @@ def climb(web, most, states):
         level, found = next_level(arcs, items, levels[-1], rings, whole)
         for state in whole:
             inside = inside_state(web, items, level, state)
-            if state not in found and inside.best is None:
+            if inside.best is None:
                 found[state] = (state, None, *ring_told(inside, {}, level, state))
         level = {label: level[label] for label in level if label[0] not in found}
         if level == levels[-1] and found == {}:

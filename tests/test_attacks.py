@@ -12,7 +12,7 @@ from heldalways.tours import is_held_for
 from heldalways.webs import Web
 from helping import random_items, random_web
 from odd import ODD, STRANGE, resized, spoiled, told
-from test_pumps import DAY, DAYS, RAINS, TANK, days
+from test_pumps import DAY, DAYS, GROUND, RAINS, TANK, days
 from test_settle import rising_web
 
 FAR = 10 ** 400
@@ -102,6 +102,21 @@ class Point47(unittest.TestCase):
         self.right(TANK, 0, (4,), Surge(items, (5, 4, 3, 2), 3, 2), False)
         self.right(TANK, 0, (4,), Surge(items, (5, 3, 2), 0, 2), False)
         self.right(TANK, 0, (4,), Surge(items[:5] + (items[5][:4] + (9,) + items[5][5:],), (5, 4), 0, 2), False)
+
+    def test_surges_of_no_pump(self):
+        # A right nest, but no greater weight, and no greater one of two labels.
+        same = Web(("level",), ("wet",), (("m", 0, 0, (("rise", 1, 1, 1), ("now", 1, 0, -5), ("rise", 1, 1, 0))),))
+        one = (0, 1, 0, 1, -4, 0, (("rule", 0), ("rule", 1), GROUND))
+        for step, right in ((0, True), (2, False)):
+            two = (0, 1, 0, 2, -3 if right else -4, 0, (("rule", step), ("tour", 0), GROUND))
+            self.assertIs(are_items(same, (one, two)), True)
+            self.right(same, 0, (9,), Surge((one, two), (1, 0), 0, 1), right)
+            self.right(same, 0, (9,), Heavy((one, two), 1))
+        other = (0, 0, 0, 2, 6, 0, (("rule", 3), ("tour", 0), GROUND))
+        web = Web(("level",), ("wet",), (("m", 0, 0, same.moves[0][3] + (("rise", 0, 1, 10),)),))
+        self.assertIs(are_items(web, (one, other)), True)
+        self.right(web, 0, (9,), Surge((one, other), (1, 0), 0, 1), False)
+        self.right(web, 0, (9,), Heavy((one, other), 1))
 
     def test_surges_by_trial(self):
         draw = random.Random(1)

@@ -4,6 +4,7 @@ from itertools import product
 
 from heldalways import court
 from heldalways.amounts import AmountWeb, corner_places, corner_web, rules_at, unseen_web
+from heldalways.answers import is_answer
 from heldalways.between import between_answer
 from heldalways.boxes import boxed_web, ever_in, rows_in
 from heldalways.court import Controller
@@ -19,14 +20,8 @@ from helping import NAMES, STATES, drifting_web, great_web, keeps, random_web
 from odd import ODD, STRANGE, spoiled, told
 from test_pumps import RAINS, TANK as RAINY
 from test_settle import some_webs
-from test_tables import random_closed
+from test_tables import BEST, LOOSE, TANK, WET, random_closed
 
-KEEP = (("now", 0, 1, 0), ("now", 1, 0, -5))
-RAIN, HOLD = ("rain", 0, 0, KEEP + (("rise", 1, 1, 1),)), ("hold", 1, 0, KEEP + (("rise", 1, 1, 0),))
-TANK = Web(("level",), ("dry", "wet"), (("pour", 0, 1, KEEP), HOLD))
-WET = Web(("level",), ("dry", "wet"), (("pour", 0, 1, KEEP), HOLD, RAIN))
-LOOSE = (((0, 0), (-5, 0)), ((0, 0), (-5, 0)))
-BEST = (((0, None), (None, 0)), ((0, None), (-5, 0)))
 # At "b" there is a ring of the move "m", which starts at "a"; "c" leads to itself alone.
 PARTS = Web(("x",), ("a", "b", "c", "d"), (("m", 0, 1, (("now", 0, 1, 4), ("now", 1, 0, -3))), ("n", 2, 2, ()), ("o", 3, 0, ())))
 RING = Ring((), 1, 0, 0, (("rule", 0), ("rule", 1)))
@@ -113,6 +108,10 @@ class Point40(unittest.TestCase):
                     self.assertNotIsInstance(verdict, Controller)
                     counts[2] += isinstance(at, Pump)
                     self.assertIn(court.paper_state(web, at), near)
+                    # No values are held for ever at the place of a right paper.
+                    place = court.paper_state(web, at)
+                    self.assertIsNone(court.best_table(web)[place])
+                    self.assertIs(court.holds_ever(web, place, (0,) * len(web.quantities)), False)
         self.assertTrue(min(counts) > 20, counts)
 
     def test_never_both(self):
@@ -209,6 +208,29 @@ class Point41(unittest.TestCase):
                     # Here 80 moves are enough, whatever the rules are.
                     self.assertEqual(held, is_held_for(web, state, values, 80))
         self.assertTrue(100 < sum(found) < len(found) - 100, (sum(found), len(found)))
+
+    def test_answers(self):
+        draw = random.Random(11)
+        answers, fewer = 0, 0
+        for web in some_webs(draw, 120):
+            best = court.best_table(web)
+            if len(web.quantities) != 1:
+                continue
+            for at, (_, start, end, rules) in enumerate(web.moves):
+                for old, new in product(range(-5, 6, 2), range(-6, 7)):
+                    if keeps_table(best, start, (old,)):
+                        right = is_answer(web, best, (old,), at, (new,))
+                        self.assertEqual(right, keeps(rules, (old,), (new,)) and court.holds_ever(web, end, (new,)))
+                        answers += right
+            for _ in range(20):
+                table = tuple([draw.choice((None, random_closed(draw, 1, -3, 2))) for _ in web.states])
+                if is_table(web, table):
+                    for at, (_, start, _, _) in enumerate(web.moves):
+                        for old, new in product(range(-5, 6, 2), range(-6, 7)):
+                            if keeps_table(table, start, (old,)) and is_answer(web, table, (old,), at, (new,)):
+                                self.assertIs(is_answer(web, best, (old,), at, (new,)), True)
+                                fewer += 1
+        self.assertTrue(answers > 200 and fewer > 200, (answers, fewer))
 
     def test_webs_that_hold_the_same(self):
         draw = random.Random(7)

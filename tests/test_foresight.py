@@ -5,8 +5,9 @@ from itertools import product
 from heldalways import foresight
 from heldalways.errors import Refused
 from heldalways.games import can_follow, can_hold
-from heldalways.sight import scripts_ahead
+from heldalways.sight import scripts_ahead, sight_web
 from heldalways.steps import end_state
+from heldalways.tours import is_held_for
 from heldalways.webs import Web
 from helping import NAMES, STATES, keeps, random_rule, random_web, window
 
@@ -85,6 +86,23 @@ class Point62(unittest.TestCase):
             follows = [all([can_follow(web, values, script) for script in scripts_ahead(web, state, most)]) for state in (0, 1)]
             self.assertEqual(found, follows)
         return found
+
+    def test_in_the_web_of_pairs(self):
+        draw = random.Random(3)
+        found = []
+        for _ in range(400):
+            web = random_web(draw, 1, 2, draw.choice((2, 3)), 4, -3, 2)
+            sight = draw.randrange(4)
+            try:
+                made, pairs, _ = sight_web(web, sight)
+            except Refused:
+                continue
+            values = (draw.randint(-3, 3),)
+            for state, most in product((0, 1), range(5)):
+                held = all([is_held_for(made, at, values, most) for at, pair in enumerate(pairs) if pair[0] == state])
+                found.append(held)
+                self.assertIs(foresight.can_hold_seeing(web, state, values, most, sight), held)
+        self.assertTrue(300 < sum(found) < len(found) - 300, (sum(found), len(found)))
 
     def test_refused(self):
         two = Web(("x",), ("a", "b"), (("m", 0, 0, (("rise", 1, 1, 1),)),) * 15)

@@ -26,6 +26,19 @@ NODES = (ast.Module, ast.Expr, ast.Constant, ast.ImportFrom, ast.alias, ast.Func
          ast.FormattedValue, ast.boolop, ast.cmpop, ast.unaryop, ast.operator)
 
 
+ITERATING = ("list", "tuple", "dict", "sorted", "sum", "any", "all", "enumerate", "zip", "min", "max")
+TAKEN = """items keys values pop update append clear extend insert remove reverse setdefault sort args encode decode hex
+    fromhex format""".split()
+CHANGING = "append extend insert pop remove clear update setdefault reverse add discard".split()
+
+
+def called(node):
+    """The name of the function or method that a node calls, None if it calls none."""
+    if not isinstance(node, ast.Call):
+        return None
+    return node.func.id if isinstance(node.func, ast.Name) else node.func.attr
+
+
 def trees():
     return [(path.name, ast.parse(path.read_text())) for path in FILES]
 
@@ -163,6 +176,55 @@ class Form(unittest.TestCase):
                 for part in re.findall("[A-Za-z_]+", word):
                     if "\n" not in word and not word.endswith("."):
                         self.assertNotIn(part, BARRED, (path.name, word))
+
+    def test_what_is_iterated_at_once(self):
+        for name, tree in trees():
+            allowed = []
+            for node in ast.walk(tree):
+                if isinstance(node, (ast.For, ast.comprehension)):
+                    allowed.append(id(node.iter))
+                elif isinstance(node, ast.Call) and isinstance(node.func, ast.Name) and node.func.id in ITERATING:
+                    allowed += [id(argument) for argument in node.args[:9 if node.func.id == "zip" else 1]]
+                elif isinstance(node, ast.Call) and isinstance(node.func, ast.Name) and node.func.id == "reversed":
+                    allowed += [id(node.args[0])] if called(node.args[0]) == "range" else []
+                elif isinstance(node, ast.Assign) and called(node.value) == "range":
+                    allowed.append(id(node.value))
+            for node in ast.walk(tree):
+                if called(node) in ("range", "zip", "enumerate", "reversed", "items", "keys", "values"):
+                    self.assertIn(id(node), allowed, (name, node.lineno))
+
+    def test_stars(self):
+        for name, tree in trees():
+            for node in ast.walk(tree):
+                if isinstance(node, ast.Call):
+                    for argument in node.args:
+                        if isinstance(argument, ast.Starred):
+                            self.assertIsInstance(argument.value, (ast.Name, ast.Attribute), (name, node.lineno))
+                            self.assertNotIn(called(node), dir(builtins), (name, node.lineno))
+                    self.assertTrue(all([keyword.arg is not None for keyword in node.keywords]), (name, node.lineno))
+
+    def test_attributes_and_methods(self):
+        for name, tree in trees():
+            for node in ast.walk(tree):
+                if isinstance(node, ast.Attribute) and isinstance(node.ctx, ast.Store):
+                    self.assertNotIn(node.attr, TAKEN, (name, node.lineno))
+                    self.assertIsInstance(node.value, ast.Name, (name, node.lineno))
+                if isinstance(node, ast.ClassDef):
+                    methods = [one.name for one in node.body if isinstance(one, ast.FunctionDef)]
+                    self.assertEqual(len(set(methods)), len(methods), (name, node.name))
+                    assigned = {one.attr for one in ast.walk(node) if isinstance(one, ast.Attribute) and isinstance(one.ctx, ast.Store)}
+                    self.assertEqual(assigned & set(methods), set(), (name, node.name))
+
+    def test_loops_do_not_change_what_they_go_over(self):
+        for name, tree in trees():
+            for node in ast.walk(tree):
+                if isinstance(node, ast.For) and called(node.iter) != "range":
+                    gone_over = {ast.unparse(one) for one in ast.walk(node.iter) if isinstance(one, (ast.Name, ast.Attribute))}
+                    for one in ast.walk(node):
+                        if isinstance(one, ast.Call) and isinstance(one.func, ast.Attribute) and one.func.attr in CHANGING:
+                            self.assertFalse(called(node.iter) != "list" and ast.unparse(one.func.value) in gone_over, (name, one.lineno))
+                        if isinstance(one, ast.Subscript) and isinstance(one.ctx, ast.Store):
+                            self.assertNotIn(ast.unparse(one.value), gone_over, (name, one.lineno))
 
     def test_dunder_methods(self):
         for name, tree in trees():

@@ -85,6 +85,7 @@ class Point17(Games):
             self.refused(games.can_follow, web, old, (0,) * most)
         self.refused(games.let_answers, four, 0, (0,) * 4)
         self.refused(games.let_answers, TANK, 0, (998,))
+        self.assertEqual(games.let_answers(TANK, 0, (997,)), ())
         self.refused(games.right_answers, TANK, 0, (998,), 0)
         self.refused(games.right_answers, TANK, 0, (0,), 4)
         self.refused(games.can_hold, TANK, 0, (10 ** 9,), 10 ** 9)

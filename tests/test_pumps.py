@@ -141,6 +141,17 @@ class Point33(unittest.TestCase):
         self.assertIsNone(pumps.pump_in((weak, DAY)))
         self.assertIs(pumps.is_pump(light, pumps.pump_in((weak, DAY, other))), True)
 
+    def test_pump_in_beside_lighter_ones(self):
+        # Nested in the outer one is a lighter item with the same beginning and another end, too.
+        web = Web(("x", "y"), ("a",), (("m", 0, 0, (("rise", 1, 1, 1), ("fall", 1, 1, 0), ("fall", 2, 1, -50), ("now", 2, 1, 50))),))
+        inner = (0, 1, 1, 1, 1, 0, (("rule", 0), ("rule", 1)))
+        light = (0, 1, 2, 2, -48, 0, (("rule", 0), ("tour", 0), ("rule", 2)))
+        outer = (0, 1, 1, 3, 4, 0, (("rule", 0), ("tour", 0), ("tour", 0), ("tour", 1), ("rule", 3), ("rule", 1)))
+        items = (inner, light, (*outer[:4], 5, *outer[5:]))
+        self.assertIs(are_items(web, items), True)
+        self.assertIs(pumps.is_pump(web, Pump(items, 2, 0)), True)
+        self.assertIs(pumps.is_pump(web, pumps.pump_in(items)), True)
+
     def test_pump_in_by_trial(self):
         draw = random.Random(3)
         some, none = 0, 0

@@ -4,9 +4,9 @@ from itertools import product
 
 from heldalways import settle
 from heldalways.excursions import is_ring
-from heldalways.pumps import Pump, Ring, is_pump, is_ring_paper
+from heldalways.pumps import Pump, Ring, is_pump, is_ring_paper, pump_in
 from heldalways.tables import is_table
-from heldalways.tourpapers import first_ring
+from heldalways.tourpapers import best_items, first_ring
 from heldalways.tours import is_held_for, keeps_rows, layers
 from heldalways.webs import Web
 from helping import NAMES, STATES, drifting_web, great_web, random_web
@@ -68,6 +68,13 @@ class Point36(unittest.TestCase):
         self.assertIs(is_pump(drop, paper), True)
         self.assertIsNone(first_ring(drop, 0, 500))
 
+    def test_nests_of_several_labels(self):
+        # In the nest of the deep item labels with one beginning and several ends come one behind another.
+        web = Web(("x", "y"), ("a", "b"), (
+            ("m", 1, 1, (("fall", 1, 0, 1), ("fall", 2, 2, 1), ("fall", 2, 1, 0), ("rise", 2, 1, -1))),
+            ("m", 0, 0, (("rise", 2, 2, 0), ("rise", 1, 1, -1), ("rise", 0, 0, -3), ("fall", 1, 1, -2)))))
+        self.assertIs(is_pump(web, settle.final_rows(web)), True)
+
     def test_against_layers(self):
         draw = random.Random(1)
         counts = {"settled": 0, "ring": 0, "pump": 0}
@@ -84,6 +91,9 @@ class Point36(unittest.TestCase):
                 self.assertLessEqual(depth, bound)
                 self.assertEqual(final, found[depth])
                 self.assertIs(is_table(web, final), True)
+                # Neither a ring nor a pump is right.
+                self.assertIsNone(pump_in(best_items(web, 9)[0]))
+                self.assertEqual([first_ring(web, state, 40) for state in range(len(web.states))], [None] * len(web.states))
                 for state in range(len(web.states)):
                     enough = [k for k in range(61) if found[k][state] == found[depth][state]]
                     self.assertEqual(settle.enough_moves(web, state), enough[0])

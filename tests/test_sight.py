@@ -59,7 +59,7 @@ class Point61(unittest.TestCase):
         # 200 are not too many.
         hub = Web((), ("a", "b"), (("m", 0, 1, ()),) * 20 + (("m", 1, 1, ()),) * 10)
         self.assertEqual(len(sight.scripts_ahead(hub, 0, 2)), 200)
-        hub = Web((), ("a", "b"), (("m", 0, 1, ()),) * 20 + (("m", 1, 1, ()),) * 10 + (("m", 0, 0, ()),))
+        hub = Web((), ("a", "b", "c"), (("m", 0, 1, ()),) * 20 + (("m", 1, 1, ()),) * 10 + (("m", 0, 2, ()),))
         self.refused(sight.scripts_ahead, hub, 0, 2)
 
     def test_sight_web(self):
