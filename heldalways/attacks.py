@@ -91,14 +91,10 @@ def is_attack(web, state, values, value):
 def surge_depth(surge):
     """The depth of the item for which a surge stands, if that were written out."""
     items = surge.excursions
-    nest = surge.nest
-    depth = items[nest[-1]][3]
-    if surge.rounds > 1:
-        # Behind its first round a pump is so deep that each one more adds just its nest.
-        depth = items[nest[0]][3] + (surge.rounds - 2) * (len(nest) - 1)
-    for number in reversed(nest[surge.place:-1]):
-        depth = max(items[number][3], depth + 1)
-    return depth
+    if surge.rounds == 1:
+        return items[surge.nest[surge.place]][3]
+    # Nothing beside the nest is as deep as what is put in at its end, so each more round adds just its length.
+    return items[surge.nest[0]][3] + (surge.rounds - 1) * (len(surge.nest) - 1) - surge.place
 
 
 def most_moves(attack):

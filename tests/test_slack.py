@@ -174,19 +174,18 @@ class Point54(unittest.TestCase):
         self.assertEqual(slack.heir_line(apart, (*hold, None), 0, 1, 2, 2), ((0, 1, 2), (1, 1, 2)))
 
     def test_lines_that_end(self):
-        # The first move ends where nothing goes on, the second one leads to the longest line.
+        # The first move leads to a line of two, the third one to the longest line.
         rules = (("rise", 1, 1, 0), ("fall", 2, 2, 0))
-        ends = ((0, 4), (0, 1), (1, 4), (1, 2), (2, 3))
-        web = Web(("x", "y"), ("a", "b", "c", "d", "e"), tuple([("m", start, end, rules) for start, end in ends]))
-        table = (((0, None, None), (None, 0, -3), (None, None, 0)),) * 5
-        for most in range(2, 10):
-            self.assertEqual(slack.heir_line(web, table, 0, 1, 2, most + 1), ((1, 1, 2), (3, 1, 2), (4, 1, 2)))
-            self.assertEqual(len(slack.heir_line(web, table, 0, 1, 2, most)), min(most, 3))
-            self.assertEqual(len(slack.heir_line(web, table, 1, 1, 2, most)), 2)
-        for most in range(4):
-            self.assertEqual(len(slack.heir_line(web, table, 0, 1, 2, most)), most)
-            self.check_line(web, table, 0, 1, 2, slack.heir_line(web, table, 0, 1, 2, most))
-        self.assertEqual(slack.heir_line(web, table, 3, 1, 2, 5), ())
+        ends = ((0, 4), (4, 5), (0, 1), (1, 5), (1, 2), (2, 3))
+        web = Web(("x", "y"), ("a", "b", "c", "d", "e", "f"), tuple([("m", start, end, rules) for start, end in ends]))
+        table = (((0, None, None), (None, 0, -3), (None, None, 0)),) * 6
+        for most in range(12):
+            line = slack.heir_line(web, table, 0, 1, 2, most)
+            self.assertEqual(len(line), min(most, 3))
+            self.check_line(web, table, 0, 1, 2, line)
+            self.assertEqual(len(slack.heir_line(web, table, 1, 1, 2, most)), min(most, 2))
+            self.assertEqual(slack.heir_line(web, table, 3, 1, 2, most), ())
+        self.assertEqual(slack.heir_line(web, table, 0, 1, 2, 500), ((2, 1, 2), (4, 1, 2), (5, 1, 2)))
 
     def test_by_trial(self):
         draw = random.Random(4)
