@@ -366,6 +366,32 @@ class Point13(Reading):
                 self.check(marks, lambda told: whole_run(web, told), lambda told: reader.read_run(web, told),
                            lambda told: reader.completed_run(web, told), tails)
 
+    def test_great_texts_cut(self):
+        draw = random.Random(6)
+        web = great_web(draw, -MOST_WEIGHT, MOST_WEIGHT)
+        run = ((0, (10 ** 9,) * 6), ())
+        state = 0
+        for _ in range(100):
+            move = draw.choice([at for at, one in enumerate(web.moves) if one[1] == state])
+            run = (run[0], (*run[1], (move, tuple([draw.choice((-10 ** 9, 10 ** 9, 0)) for _ in range(6)]))))
+            state = web.moves[move][2]
+        self.assertEqual(reader.read_run(web, show_run(web, run)), run)
+        values = (-10 ** 9, 10 ** 9, 0, 1, -1, 10 ** 8)
+        for text, read, completed, step in (
+                (show_web(web), reader.read_web, reader.completed_web, 331),
+                (show_run(web, run), lambda told: reader.read_run(web, told), lambda told: reader.completed_run(web, told), 29),
+                (show_values(web, values), lambda told: reader.read_values(web, told), lambda told: reader.completed_values(web, told), 1)):
+            marks = marks_in(text)
+            lines = text.split("\n")
+            for cut in [*range(0, len(marks), step), len(marks) - 1]:
+                line, at, mark = marks[cut]
+                begun = "\n".join([*lines[:line], lines[line][:at]])
+                whole = completed(begun)
+                self.assertTrue(whole.startswith(begun))
+                self.assertEqual(marks_in(whole)[:cut], marks[:cut])
+                read(whole)
+                self.wrong(line, at, begun + "#" + mark, read, completed)
+
     def test_shown_and_read(self):
         draw = random.Random(5)
         for _ in range(60):

@@ -158,6 +158,20 @@ class Point61(unittest.TestCase):
         self.assertGreater(tried, 200)
 
 
+    def test_great(self):
+        moves = tuple([("m", at, (at + 1) % 8, ()) for at in range(8)])
+        ring = Web(("a", "b", "c", "d", "e", "f"), STATES, moves)
+        script = tuple([at % 8 for at in range(100)])
+        run = ((0, (0,) * 6), tuple([(move, (move,) * 6) for move in script]))
+        made, pairs, firsts = sight.sight_web(ring, 7)
+        other = sight.sighted_run(ring, 7, run, (4, 5, 6, 7, 0, 1, 2))
+        self.assertIs(is_run(made, other, False), True)
+        self.assertEqual(sight.plain_run(pairs, firsts, other), run)
+        five = Web((), STATES, tuple([("m", at % 8, (at + at // 8) % 8, ()) for at in range(40)]))
+        run = ((0, ()), ((0, ()),) * 100)
+        self.assertEqual(sight.sighted_run(five, 0, run, ()), run)
+
+
 STATES_OF = ("a", "b", "c", "d", "e", "f", "g", "h")
 
 if __name__ == "__main__":
