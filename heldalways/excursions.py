@@ -48,7 +48,7 @@ def arc_between(web, items, state, move, point, step):
 
 
 def walk_along(web, items, state, move, begin, steps):
-    """What walk_told returns, for a state, a move or None, a point, and a tuple of any values."""
+    """What walk_told returns, for a state, a move or None, a point, and any values as steps."""
     point = begin
     weight = 0
     depth = 0

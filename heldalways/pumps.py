@@ -86,29 +86,38 @@ def places_by_label(items):
     return places
 
 
-def lightest_nested(items, used, numbers):
-    """For each item from the first one of some numbers on the lightest of these nested in it, or None."""
+def nested_marks(items, used, bits):
+    """For each item an integer whose bits tell of which labels some are nested in it."""
+    marks = []
+    for numbers in used:
+        mark = 0
+        for number in numbers:
+            mark = mark | marks[number] | bits[items[number][:3]]
+        marks.append(mark)
+    return marks
+
+
+def lightest_nested(items, used, numbers, above):
+    """For each item with some of these numbers nested in it the lightest of these; `above` are such items."""
     wanted = {number: True for number in numbers}
-    first = numbers[0]
-    nested = []
-    for at in range(first, numbers[-1] + 1):
+    nested = {}
+    for at in above:
         found = [number for number in used[at] if number in wanted]
-        found.extend([nested[number - first] for number in used[at] if number >= first])
-        weights = [(items[number][4], number) for number in found if number is not None]
-        nested.append(min(weights)[1] if weights else None)
+        found.extend([nested[number] for number in used[at] if number in nested])
+        nested[at] = min([(items[number][4], number) for number in found])[1]
     return nested
 
 
 def pump_in(items):
     used = [tours_in(item[6]) for item in items]
     places = places_by_label(items)
+    bits = {label: 1 << at for at, label in enumerate(places)}
+    marks = nested_marks(items, used, bits)
     for label in places:
         numbers = places[label]
-        weights = [items[number][4] for number in numbers]
-        if min(weights) < max(weights):
-            nested = lightest_nested(items, used, numbers)
-            for outer in numbers:
-                inner = nested[outer - numbers[0]]
-                if inner is not None and are_alike(items, outer, inner):
-                    return few_pump(items, outer, inner)
+        above = [at for at in range(numbers[0], numbers[-1] + 1) if marks[at] & bits[label]]
+        nested = lightest_nested(items, used, numbers, above)
+        for outer in numbers:
+            if outer in nested and are_alike(items, outer, nested[outer]):
+                return few_pump(items, outer, nested[outer])
     return None
