@@ -1,9 +1,10 @@
 """What is held for ever: a controller, or a ring or a pump that shows why there is none."""
 
 from heldalways.pumps import Pump, Ring, is_pump, is_ring_paper
-from heldalways.settle import depth_bound, final_of, final_rows, is_settled, layers_of
+from heldalways.settle import final_of, final_rows, first_pump, is_settled, layers_of
 from heldalways.tables import is_table
-from heldalways.tours import first_layer, keeps_rows, move_frames, next_layer
+from heldalways.tourpapers import every_state
+from heldalways.tours import keeps_rows
 from heldalways.webs import check_values, reached
 
 
@@ -54,20 +55,21 @@ def verdict_at(web, state):
     return Controller(tuple([rows if at in states else None for at, rows in enumerate(found)]))
 
 
+def lost_states(web, states, found):
+    """Those of some states at which no values are held for ever, as far as their last layers tell."""
+    if None not in found[-1]:
+        return [paper_state(web, first_pump(web, states))]
+    return [state for state in states if found[-1][state] is None]
+
+
 def best_table(web):
-    frames = move_frames(web)
-    before = ()
-    layer = first_layer(web)
-    many = 0
-    # A part of the web that settles at all does so within the bound.
-    while before != layer and many <= depth_bound(web):
-        before = layer
-        layer = next_layer(web, frames, layer)
-        many += 1
-    still = [rows is not None and rows == earlier for rows, earlier in zip(layer, before)]
-    return tuple([
-        rows if all([still[at] for at in reached(web, state)]) else None
-        for state, rows in enumerate(layer)])
+    states = every_state(web)
+    found = layers_of(web, states)
+    while not is_settled(found):
+        lost = lost_states(web, states, found)
+        states = tuple([state for state in states if not any([at in lost for at in reached(web, state)])])
+        found = layers_of(web, states)
+    return tuple([rows if state in states else None for state, rows in enumerate(found[-1])])
 
 
 def kept_states(web):

@@ -1,34 +1,84 @@
 """When looking deeper changes nothing any more, and what shows that this never comes."""
 
-from heldalways.pumps import Ring, few_pump, nest_of
-from heldalways.tourpapers import climb, every_state, first_ring
+from heldalways.excursions import tours_in
+from heldalways.pumps import Ring, few_pump
+from heldalways.tourpapers import Arcs, every_state, first_ring, next_level
 from heldalways.tours import first_layer, move_frames, tour_rows
+
+SOON = 12
 
 
 def depth_bound(web):
-    return depth_bound_of(web, every_state(web))
+    return len(web.states) * (len(web.quantities) + 1) ** 2
 
 
-def depth_bound_of(web, states):
-    return len(states) * (len(web.quantities) + 1) ** 2
+class Nested:
+    """Items that may be put into one another: which labels come within each of them.
+
+    `inside` has for each item a dict from the labels nested in it to the
+    number of an item that has the label there.
+    """
+
+    def __init__(self):
+        self.made = []
+        self.inside = []
+
+
+def pump_made(nested):
+    """The numbers of the first item that has its own label nested in it, and of the one in it; None without any.
+
+    Looks at the items that have come since it was last asked.
+    """
+    items = nested.made
+    for at in range(len(nested.inside), len(items)):
+        inside = {}
+        for number in tours_in(items[at][6]):
+            inside.update(nested.inside[number])
+            inside[items[number][:3]] = number
+        nested.inside.append(inside)
+        if items[at][:3] in inside:
+            return at, inside[items[at][:3]]
+    return None
+
+
+def first_pump(web, states):
+    """Some right pump at a lot of states with all that are reached from them; None if there is none.
+
+    Also None if a ring comes before any pump does.
+    """
+    arcs = Arcs(web)
+    nested = Nested()
+    before = None
+    level = {}
+    while level != before:
+        before = level
+        level, rings = next_level(arcs, nested.made, before, {}, states)
+        if rings != {}:
+            return None
+        # An item that comes later is heavier than all of its label that came before.
+        found = pump_made(nested)
+        if found is not None:
+            return few_pump(nested.made, found[0], found[1])
+    return None
 
 
 def layers_of(web, states):
     """The layers of a lot of states, with all that are reached from them, until they tell enough.
 
-    Until one is as the one before, or has a state without rows, or some
-    excursion is deeper than there are labels. Other states keep first rows.
+    Until one is as the one before, or has a state without rows, or there is
+    a pump and they have not settled soon. Other states keep first rows.
     """
     frames = move_frames(web)
     found = [first_layer(web)]
-    while len(found) <= depth_bound_of(web, states) + 1:
+    while True:
         before = found[-1]
         layer = tuple([tour_rows(web, frames, before, state) if state in states else rows
                        for state, rows in enumerate(before)])
         found.append(layer)
         if layer == before or None in layer:
-            break
-    return found
+            return found
+        if len(found) == SOON and first_pump(web, states) is not None:
+            return found
 
 
 def is_settled(found):
@@ -37,26 +87,11 @@ def is_settled(found):
 
 def paper_of(web, states, found):
     """Some right ring or pump at a state of some that do not settle."""
-    deepest = len(found) - 1
     for state in states:
         if found[-1][state] is None:
-            ring = first_ring(web, state, deepest)
+            ring = first_ring(web, state, len(found) - 1)
             return Ring(*ring)
-    return pump_within(web, states, deepest)
-
-
-def pump_within(web, states, deepest):
-    """The pump in some item that is deeper than there are labels."""
-    items, levels, _ = climb(web, deepest, states)
-    deep = [number for number in list(levels[-1].values()) if items[number][3] == deepest]
-    inner_ones = {}
-    for number in reversed(nest_of(items, deep[0])):
-        label = items[number][:3]
-        if label in inner_ones:
-            # It came later than the inner one, so it was heavier than all less deep ones.
-            return few_pump(items, number, inner_ones[label])
-        inner_ones[label] = number
-    return None
+    return first_pump(web, states)
 
 
 def final_of(web, states):
