@@ -2,7 +2,7 @@
 
 from heldalways.errors import Refused
 from heldalways.steps import is_let
-from heldalways.webs import MOST_RULES, moves_from, with_rules
+from heldalways.webs import moves_from, with_rules_behind
 
 MOST_ROWS = 200
 
@@ -27,10 +27,7 @@ def box_rules(box):
 
 
 def boxed_web(web, box):
-    behind = box_rules(box)
-    if any([len(move[3]) + len(behind) > MOST_RULES for move in web.moves]):
-        raise Refused("size")
-    return with_rules(web, [(*move[3], *behind) for move in web.moves])
+    return with_rules_behind(web, box_rules(box))
 
 
 def marks_from(box, rows):

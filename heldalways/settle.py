@@ -33,7 +33,8 @@ def pump_made(nested):
     for at in range(len(nested.inside), len(items)):
         inside = {}
         for number in tours_in(items[at][6]):
-            inside.update(nested.inside[number])
+            for label in nested.inside[number]:
+                inside[label] = nested.inside[number][label]
             inside[items[number][:3]] = number
         nested.inside.append(inside)
         if items[at][:3] in inside:

@@ -145,6 +145,13 @@ def with_rules(web, rules):
     return Web(web.quantities, web.states, tuple(moves))
 
 
+def with_rules_behind(web, rules):
+    """The web in which each move has these rules, too, behind its own; refused for too many."""
+    if any([len(move[3]) + len(rules) > MOST_RULES for move in web.moves]):
+        raise Refused("size")
+    return with_rules(web, [(*move[3], *rules) for move in web.moves])
+
+
 def sharpest(web):
     return with_rules(web, [sharp_rules(move[3]) for move in web.moves])
 
@@ -178,12 +185,17 @@ def renamed_web(web, quantities, states):
     return Web(names, stops, tuple(moves)), places, ends
 
 
+def is_value(number):
+    """Whether any value is one of values."""
+    return is_within(number, -MOST_VALUE, MOST_VALUE)
+
+
 def wrong_value(web, value):
     """The place that InvalidValues tells, None for values."""
     if not is_tuple_of(value, len(web.quantities)):
         return -1
     for at, number in enumerate(value):
-        if not is_within(number, -MOST_VALUE, MOST_VALUE):
+        if not is_value(number):
             return at
     return None
 

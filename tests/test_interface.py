@@ -72,6 +72,19 @@ FUNCTIONS = {
              "is_verdict_at(web, state, value) court(web) verdict_at(web, state) best_table(web) kept_states(web) "
              "holds_ever(web, state, values)",
     "attacks": "is_attack(web, state, values, value) most_moves(attack)",
+    "bands": "are_bands(amount_web, move, place, value) banded_web(amount_web, move, place, bands) "
+             "fewest_bands(amount_web, move, place)",
+    "ends": "lean_corners(amount_web) greatest_amount(amount_web, move, place, state, values, most)",
+    "judgment": "way_between(web, state, end) is_judgment(web, value) judgment(web)",
+    "rooms": "are_rooms(web, value) roomed_web(web, rooms) with_room(rooms, place, room) is_enough(web, rooms, state)",
+    "seeing": "sight_table(web, sight) holds_seeing(web, state, values, sight) least_sight(web, state, values, most) "
+              "lost_script(web, state, values, sight) seeing_run(web, position, script, sight)",
+    "sheets": "is_sheet(value)",
+    "deeds": "is_deed(sheet, value) sheet_after(sheet, deed) sheet_after_all(sheet, deeds)",
+    "plays": "attack_move(web, state, values, attack) attack_behind(web, state, values, attack, said) "
+             "attacked_run(web, position, attack, said)",
+    "roompapers": "paper_gain(web, rooms, paper) room_count(web, place, paper) beaten_to(web, rooms, place, paper) "
+                  "paper_at(web, rooms, place, paper, room)",
 }
 CLASSES = {
     "errors": "PlantError InvalidWeb(at) InvalidText(line, at) InvalidValues(at) InvalidRun(at) InvalidPaper(at) "
@@ -85,6 +98,8 @@ CLASSES = {
     "pumps": "Ring(excursions, state, move, begin, steps) Pump(excursions, outer, inner)",
     "court": "Controller(table)",
     "attacks": "Heavy(excursions, at) Surge(excursions, nest, place, rounds) March(script, paper)",
+    "judgment": "Judgment(table, papers, ways)",
+    "sheets": "Sheet(web, state, said)",
 }
 METHODS = {
     ("journal", "Journal"): "records(self) write(self, record) drop(self, many) renew(self, records)",
