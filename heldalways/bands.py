@@ -3,6 +3,7 @@
 from heldalways.amounts import corner_web, corners_in, weight_at
 from heldalways.court import best_table
 from heldalways.errors import Refused
+from heldalways.halving import greatest_up_to
 from heldalways.kinds import is_within
 from heldalways.tables import broken_move
 from heldalways.webs import MOST_MOVES, Web
@@ -65,15 +66,8 @@ def is_held_band(amount_web, move, place, first, last, table):
 
 def longest_band(amount_web, move, place, first, table):
     """The last amount of the longest band from an amount on for which a table is right."""
-    _, most = amount_web.moves[move][3][place]
-    last = first
-    while last < most:
-        middle = (last + most + 1) // 2
-        if is_held_band(amount_web, move, place, first, middle, table):
-            last = middle
-        else:
-            most = middle - 1
-    return last
+    _, high = amount_web.moves[move][3][place]
+    return greatest_up_to(first, high, lambda last: is_held_band(amount_web, move, place, first, last, table))
 
 
 def fewest_bands(amount_web, move, place):

@@ -3,8 +3,7 @@
 from heldalways.pumps import Pump, Ring, is_pump, is_ring_paper
 from heldalways.settle import final_of, final_rows, first_pump, is_settled, layers_of
 from heldalways.tables import is_table
-from heldalways.tourpapers import every_state
-from heldalways.tours import keeps_rows
+from heldalways.tours import every_state, keeps_rows
 from heldalways.webs import check_values, reached
 
 

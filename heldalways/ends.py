@@ -3,6 +3,7 @@
 from heldalways.amounts import AmountWeb, corner_web
 from heldalways.court import best_table, holds_ever
 from heldalways.errors import InvalidWeb, Refused
+from heldalways.halving import greatest_up_to
 from heldalways.webs import check_values, without_moves
 
 
@@ -38,10 +39,4 @@ def greatest_amount(amount_web, move, place, state, values, most):
     low, _ = amount_web.moves[move][3][place]
     if not is_held_up_to(amount_web, move, place, state, values, low):
         return None
-    while low < most:
-        middle = (low + most + 1) // 2
-        if is_held_up_to(amount_web, move, place, state, values, middle):
-            low = middle
-        else:
-            most = middle - 1
-    return low
+    return greatest_up_to(low, most, lambda high: is_held_up_to(amount_web, move, place, state, values, high))

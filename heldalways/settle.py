@@ -2,8 +2,8 @@
 
 from heldalways.excursions import tours_in
 from heldalways.pumps import Ring, few_pump
-from heldalways.tourpapers import Arcs, every_state, first_ring, next_level
-from heldalways.tours import first_layer, move_frames, tour_rows
+from heldalways.tourpapers import Arcs, first_ring, next_level
+from heldalways.tours import every_state, first_layer, move_frames, next_layer
 
 SOON = 12
 
@@ -42,6 +42,11 @@ def pump_made(nested):
     return None
 
 
+def leads_to(web, state, ends):
+    """Whether a move leads from a state to some others."""
+    return any([start == state and end in ends for _, start, end, _ in web.moves])
+
+
 def first_pump(web, states):
     """Some right pump at a lot of states with all that are reached from them; None if there is none.
 
@@ -49,17 +54,20 @@ def first_pump(web, states):
     """
     arcs = Arcs(web)
     nested = Nested()
-    before = None
     level = {}
-    while level != before:
-        before = level
-        level, rings = next_level(arcs, nested.made, before, {}, states)
+    moved = states
+    while moved:
+        behind, rings = next_level(arcs, nested.made, level, {}, moved)
         if rings != {}:
             return None
         # An item that comes later is heavier than all of its label that came before.
         found = pump_made(nested)
         if found is not None:
             return few_pump(nested.made, found[0], found[1])
+        changed = [label[0] for label in behind if level.get(label) != behind[label]]
+        moved = [state for state in states if leads_to(web, state, changed)]
+        for label in behind:
+            level[label] = behind[label]
     return None
 
 
@@ -72,11 +80,10 @@ def layers_of(web, states):
     frames = move_frames(web)
     found = [first_layer(web)]
     while True:
-        before = found[-1]
-        layer = tuple([tour_rows(web, frames, before, state) if state in states else rows
-                       for state, rows in enumerate(before)])
+        before = found[-2] if len(found) > 1 else None
+        layer = next_layer(web, frames, found[-1], states, before)
         found.append(layer)
-        if layer == before or None in layer:
+        if layer == found[-2] or None in layer:
             return found
         if len(found) == SOON and first_pump(web, states) is not None:
             return found

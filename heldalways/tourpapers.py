@@ -4,7 +4,7 @@ from heldalways.bounds import ring_in
 from heldalways.errors import Refused
 from heldalways.excursions import tours_in
 from heldalways.hidden import both_rows
-from heldalways.tours import check_most, joined_rows, move_arcs, move_frames
+from heldalways.tours import check_most, every_state, joined_rows, move_arcs, move_frames
 from heldalways.webs import moves_from, reached
 
 
@@ -188,10 +188,6 @@ def next_level(arcs, items, level, rings, states):
     return behind, found
 
 
-def every_state(web):
-    return tuple([state for state in range(len(web.states))])
-
-
 def next_items(web, items, level, broken=()):
     found = list(items)
     rings = {state: () for state in broken}
@@ -237,13 +233,18 @@ def renumbered(steps, places):
     return tuple([("tour", places[number]) if word == "tour" else (word, number) for word, number in steps])
 
 
-def few_items(items, numbers):
+def needed_items(items, numbers):
+    """The numbers of some items and of all that they are made of, ascending."""
     needed = {number: True for number in numbers}
     for at in range(len(items) - 1, -1, -1):
         if at in needed:
             for number in tours_in(items[at][6]):
                 needed[number] = True
-    places = {number: at for at, number in enumerate(sorted(list(needed)))}
+    return sorted(list(needed))
+
+
+def few_items(items, numbers):
+    places = {number: at for at, number in enumerate(needed_items(items, numbers))}
     few = [(*items[number][:6], renumbered(items[number][6], places)) for number in places]
     return tuple(few), tuple([places[number] for number in numbers])
 

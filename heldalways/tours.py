@@ -86,8 +86,20 @@ def tour_rows(web, frames, layer, state):
     return heaviest(rows)
 
 
-def next_layer(web, frames, layer):
-    return tuple([tour_rows(web, frames, layer, state) for state in range(len(web.states))])
+def next_layer(web, frames, layer, states, before=None):
+    """The next layer for a lot of states with all that are reached from them; the others keep their rows.
+
+    If the layer before is told, too, just what has changed is looked at.
+    """
+    changed = [before is None or rows != before[state] for state, rows in enumerate(layer)]
+    moved = [start for _, start, end, _ in web.moves if changed[end]]
+    return tuple([
+        tour_rows(web, frames, layer, state) if state in states and (before is None or state in moved) else rows
+        for state, rows in enumerate(layer)])
+
+
+def every_state(web):
+    return tuple([state for state in range(len(web.states))])
 
 
 def move_frames(web):
@@ -95,7 +107,7 @@ def move_frames(web):
 
 
 def layer_rows(web, layer):
-    return next_layer(web, move_frames(web), layer)
+    return next_layer(web, move_frames(web), layer, every_state(web))
 
 
 def check_most(most):
@@ -108,7 +120,8 @@ def layers(web, most):
     frames = move_frames(web)
     found = [first_layer(web)]
     while len(found) <= most:
-        layer = next_layer(web, frames, found[-1])
+        before = found[-2] if len(found) > 1 else None
+        layer = next_layer(web, frames, found[-1], every_state(web), before)
         if layer == found[-1]:
             # What one more move does not change stays for ever.
             found.extend([layer] * (most - len(found)))

@@ -7,8 +7,8 @@ from heldalways.excursions import are_items
 from heldalways.levelled import pumped
 from heldalways.pumps import Pump, Ring, is_pump, is_ring_paper
 from heldalways.steps import is_script
-from heldalways.tourpapers import climb, every_state
-from heldalways.tours import is_held_for
+from heldalways.tourpapers import climb
+from heldalways.tours import every_state, is_held_for
 from heldalways.webs import Web
 from helping import random_items, random_web
 from odd import ODD, STRANGE, resized, spoiled, told

@@ -158,7 +158,7 @@ class Point76(unittest.TestCase):
         for deed in right:
             self.can(PAIR, deed)
             for wrong in [*spoiled(deed, STRANGE + [None, "?"]), *resized(deed)]:
-                self.can(PAIR, wrong, wrong == ("add", ("m", 1, 0, ())) if isinstance(wrong, tuple) and wrong[0] == "add" else False)
+                self.can(PAIR, wrong, told(wrong) == told(("add", ("m", 1, 0, ()))))
 
     def test_by_trial(self):
         draw = random.Random(1)

@@ -9,7 +9,7 @@ import unittest
 FOLDER = pathlib.Path(__file__).resolve().parent.parent / "heldalways"
 FILES = sorted(FOLDER.glob("*.py"))
 BUILTINS = {"len", "range", "enumerate", "zip", "min", "max", "sum", "abs", "sorted", "reversed", "int", "str", "bool",
-            "list", "tuple", "dict", "set", "isinstance", "any", "all", "ValueError", "super"} - {"super"}
+            "list", "tuple", "dict", "set", "isinstance", "any", "all", "ord", "ValueError"}
 METHODS = set("""append clear copy count endswith extend find get index insert isalnum isalpha isdigit islower isspace
     isupper items join keys ljust lower lstrip partition pop remove replace reverse rfind rjust rpartition rsplit
     rstrip setdefault split splitlines startswith strip update upper values zfill bit_length""".split())
@@ -23,7 +23,7 @@ NODES = (ast.Module, ast.Expr, ast.Constant, ast.ImportFrom, ast.alias, ast.Func
          ast.For, ast.Return, ast.Break, ast.Continue, ast.Pass, ast.Raise, ast.Try, ast.ExceptHandler, ast.Call,
          ast.keyword, ast.Compare, ast.BoolOp, ast.BinOp, ast.UnaryOp, ast.IfExp, ast.Tuple, ast.List, ast.Dict,
          ast.ListComp, ast.DictComp, ast.comprehension, ast.Subscript, ast.Slice, ast.Starred, ast.JoinedStr,
-         ast.FormattedValue, ast.boolop, ast.cmpop, ast.unaryop, ast.operator)
+         ast.FormattedValue, ast.Lambda, ast.boolop, ast.cmpop, ast.unaryop, ast.operator)
 
 
 ITERATING = ("list", "tuple", "dict", "sorted", "sum", "any", "all", "enumerate", "zip", "min", "max")

@@ -83,6 +83,23 @@ FUNCTIONS = {
     "deeds": "is_deed(sheet, value) sheet_after(sheet, deed) sheet_after_all(sheet, deeds)",
     "plays": "attack_move(web, state, values, attack) attack_behind(web, state, values, attack, said) "
              "attacked_run(web, position, attack, said)",
+    "leastroom": "room_paper(web, rooms, place, state) is_room_paper(web, rooms, place, state, value) "
+                 "least_room(web, rooms, place, state) least_room_for(web, rooms, place, state, values) "
+                 "lean_rooms(web, rooms, state)",
+    "promises": "near_deed(sheet, move, wish) move_deed(sheet, move) heaviest_rule(sheet, move, kind, one, other)",
+    "quick": "attack_on(web, state, values) fewest_moves(web, state, values, most) quick_attack(web, state, values, most)",
+    "desk": "start_desk(disk, sheet)",
+    "easing": "eased_web(web, by) least_easing(web, state, values) easing_papers(web, state, values) "
+              "is_least_easing(web, state, values, value)",
+    "marks": "used_moves(attack) used_rules(attack)",
+    "runs": "run_commands(sheet, commands) run_with_papers(sheet, commands) sheet_of_run(sheet, commands, results) "
+            "show_result(result) run_lines(sheet, text)",
+    "repairs": "is_bar(web, state, values, value) cheapest_bar(web, state, values, prices) "
+               "bar_price(web, state, values, prices) lean_bars(web, state, values) is_strike(web, state, values, value) "
+               "fewest_strikes(web, state, values) lean_strikes(web, state, values)",
+    "repairpapers": "bar_paper(web, state, values, prices) is_bar_paper(web, state, values, prices, value) "
+                    "strike_paper(web, state, values) is_strike_paper(web, state, values, value)",
+    "claims": "run_fault(sheet, commands, answers) is_so(value) not_so(values)",
     "roompapers": "paper_gain(web, rooms, paper) room_count(web, place, paper) beaten_to(web, rooms, place, paper) "
                   "paper_at(web, rooms, place, paper, room)",
 }
@@ -100,9 +117,14 @@ CLASSES = {
     "attacks": "Heavy(excursions, at) Surge(excursions, nest, place, rounds) March(script, paper)",
     "judgment": "Judgment(table, papers, ways)",
     "sheets": "Sheet(web, state, said)",
+    "leastroom": "RoomPaper(room, table, paper)",
+    "desk": "Desk(disk)",
+    "repairpapers": "PricePaper(price, rows)",
 }
 METHODS = {
     ("journal", "Journal"): "records(self) write(self, record) drop(self, many) renew(self, records)",
+    ("desk", "Desk"): "do(self, deed) answer(self, move) enter(self, move, wish) undo(self, many) deeds(self) begun(self) "
+                      "pack(self)",
     ("disk", "Disk"): "look(self, at) put(self, at, octet) flush(self) events(self)",
 }
 

@@ -6,7 +6,8 @@ from heldalways.errors import InvalidNumber
 from heldalways.excursions import are_items
 from heldalways.pumps import Pump, Ring, is_pump, is_ring_paper, pump_gain, pump_in
 from heldalways.settle import depth_bound
-from heldalways.tourpapers import best_items, climb, every_state
+from heldalways.tourpapers import best_items, climb
+from heldalways.tours import every_state
 from heldalways.webs import Web
 from helping import drifting_web, random_items, random_web
 from odd import STRANGE, told
