@@ -2,24 +2,25 @@
 
 from heldalways.bounds import is_setting
 from heldalways.errors import Refused
-from heldalways.hidden import greater
 from heldalways.kinds import are_integers
 from heldalways.solving import Solved, number_ranges, solution
-from heldalways.tours import keeps_rows, move_arcs
+from heldalways.tours import keeps_rows
 
 
 def move_rows(web, table, move):
+    _, _, end, rules = web.moves[move]
     many = len(web.quantities)
-    rows = [[None] * (2 * many + 1) for _ in range(2 * many + 1)]
-    for side, one, far_side, other, weight, _ in move_arcs(web, move):
-        begin = point_of(many, side, one)
-        end = point_of(many, far_side, other)
-        rows[begin][end] = greater(rows[begin][end], weight)
-    for one, row in enumerate(table[web.moves[move][2]]):
-        for other, entry in enumerate(row):
-            begin = point_of(many, "new", one)
-            end = point_of(many, "new", other)
-            rows[begin][end] = greater(rows[begin][end], entry)
+    # The rows told have the arcs between the ground's points, too: 0 on the diagonal.
+    told = [[row[0], *[None] * many, *row[1:]] for row in table[end]]
+    rows = [told[0], *[[None] * (2 * many + 1) for _ in range(many)], *told[1:]]
+    new = [0, *list(range(many + 1, 2 * many + 1))]
+    for kind, one, other, weight in rules:
+        if kind == "fall":
+            row, at = rows[new[other]], one
+        else:
+            row, at = rows[one if kind == "rise" else new[one]], new[other]
+        if row[at] is None or row[at] < weight:
+            row[at] = weight
     return tuple([tuple(row) for row in rows])
 
 

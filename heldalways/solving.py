@@ -67,16 +67,20 @@ def greatest_number(best, fixed, point):
     return min(highs) if highs else None
 
 
+def some_number(best, fixed, point):
+    low = least_number(best, fixed, point)
+    if low is not None:
+        return low
+    high = greatest_number(best, fixed, point)
+    return 0 if high is None else high
+
+
 def some_setting(best, fixed):
     """A setting with the greatest weights that fits fixed numbers without a clash."""
     numbers = list(fixed)
     for point in range(len(numbers)):
-        low = least_number(best, numbers, point)
-        high = greatest_number(best, numbers, point)
-        if low is not None:
-            numbers[point] = low
-        else:
-            numbers[point] = 0 if high is None else high
+        if numbers[point] is None:
+            numbers[point] = some_number(best, numbers, point)
     return tuple(numbers)
 
 

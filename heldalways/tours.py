@@ -2,7 +2,7 @@
 
 from heldalways.bounds import heaviest, keeps_entries, raise_row
 from heldalways.errors import InvalidNumber
-from heldalways.hidden import both_rows, greater
+from heldalways.hidden import both_rows
 from heldalways.kinds import is_within
 from heldalways.webs import check_values, moves_from
 
@@ -24,20 +24,20 @@ def move_arcs(web, move):
     return (*into, *among, *back)
 
 
-def arc_rows(web, move, begin, end):
-    """The greatest weights of the arcs of a move from one side to another."""
-    size = len(web.quantities) + 1
-    rows = [[None] * size for _ in range(size)]
-    for side, one, far_side, other, weight, _ in move_arcs(web, move):
-        if side == begin and far_side == end:
-            rows[one][other] = greater(rows[one][other], weight)
-    return tuple([tuple(row) for row in rows])
-
-
 def move_frame(web, move):
-    """The rows of the arcs to new points, among them, and back."""
-    return (arc_rows(web, move, "old", "new"), arc_rows(web, move, "new", "new"),
-            arc_rows(web, move, "new", "old"))
+    """The greatest weights of the arcs to new points, among them, and back."""
+    size = len(web.quantities) + 1
+    into, among, back = [[[None] * size for _ in range(size)] for _ in range(3)]
+    into[0][0] = 0
+    back[0][0] = 0
+    for kind, one, other, weight in web.moves[move][3]:
+        if kind == "fall":
+            row, at = back[other], one
+        else:
+            row, at = (into if kind == "rise" else among)[one], other
+        if row[at] is None or row[at] < weight:
+            row[at] = weight
+    return into, among, back
 
 
 def joined_row(row, rows):

@@ -1,8 +1,9 @@
 """Answers that are as near to what is wished as can be."""
 
 from heldalways.answers import check_held, fixed_numbers, move_rows
-from heldalways.bounds import heaviest, heaviest_walk, is_point_walk, walk_weight
+from heldalways.bounds import heaviest, heaviest_walk
 from heldalways.hidden import both_rows
+from heldalways.kinds import is_index
 from heldalways.solving import solution
 
 
@@ -27,13 +28,15 @@ def asked_distance(numbers, many, walk, weight):
 def farthest(rows, numbers, many):
     """The greatest distance that walks between two points ask for, and these; 0 and None if none asks."""
     best = heaviest(rows)
+    known = [point for point, number in enumerate(numbers) if number is not None]
     found = 0
     pair = None
-    for one, row in enumerate(best):
-        for other, weight in enumerate(row):
-            if weight is not None:
+    for one in known:
+        for other in known:
+            weight = best[one][other]
+            if weight is not None and (one > many or other > many):
                 asked = asked_distance(numbers, many, (one, other), weight)
-                if asked is not None and asked > found:
+                if asked > found:
                     found = asked
                     pair = (one, other)
     return found, pair
@@ -64,12 +67,57 @@ def near_answer(web, table, values, move, wish):
     return solution(near, fixed).setting[len(values) + 1:]
 
 
+def new_number(many, point):
+    """The ground or the quantity whose new value a point has, -1 for an old value."""
+    if point == 0:
+        return 0
+    return point - many if point > many else -1
+
+
+def entry_at(web, table, move, one, other):
+    """The entry of move_rows from one point to another, without the others."""
+    _, _, end, rules = web.moves[move]
+    many = len(web.quantities)
+    begin = new_number(many, one)
+    last = new_number(many, other)
+    best = table[end][begin][last] if begin >= 0 and last >= 0 else None
+    # Numbers of old points are those of the quantities; new points have greater ones.
+    for kind, first, second, weight in rules:
+        if kind == "rise":
+            hit = first == one and second == last
+        elif kind == "fall":
+            hit = first == other and second == begin
+        else:
+            hit = first == begin and second == last
+        if hit and (best is None or best < weight):
+            best = weight
+    return best
+
+
+def weight_along(web, table, move, points):
+    """The weight of a point walk along points, None if they are none."""
+    entries = {}
+    weight = 0
+    for arc in zip(points, points[1:]):
+        if arc not in entries:
+            entries[arc] = entry_at(web, table, move, arc[0], arc[1])
+        if entries[arc] is None:
+            return None
+        weight += entries[arc]
+    return weight
+
+
 def is_far_walk(web, table, values, move, wish, distance, value):
-    rows = move_rows(web, table, move)
-    if not is_point_walk(rows, value):
+    if not isinstance(value, tuple) or value == ():
         return False
-    asked = asked_distance(wish_numbers(values, wish), len(values), value, walk_weight(rows, value))
-    return asked is not None and asked >= distance
+    numbers = wish_numbers(values, wish)
+    if not all([is_index(point, len(numbers)) for point in value]):
+        return False
+    # Most values asked are none at a glance: their ends tell.
+    if asked_distance(numbers, len(values), value, 0) is None:
+        return False
+    weight = weight_along(web, table, move, value)
+    return weight is not None and asked_distance(numbers, len(values), value, weight) >= distance
 
 
 def far_walk(web, table, values, move, wish):
