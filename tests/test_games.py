@@ -1,4 +1,5 @@
 import random
+import time
 import unittest
 from itertools import product
 
@@ -279,6 +280,26 @@ class Point19(Games):
             [("rise", i, i, 0) for i in (1, 2, 3)] * 10)) for at in range(40)]))
         self.assertIs(games.can_hold(still, 0, (9, 0, 5), 4), True)
         self.assertEqual(games.first_run(still, (0, (9, 0, 5)), (0, 1, 2), 4)[1][2], (2, (9, 0, 5)))
+
+
+class Quickly(unittest.TestCase):
+    def test_many_games(self):
+        # A first window of 900 values: hundreds of these were too slow when each value was tried.
+        web = Web(("ba", "bc"), ("a",), (
+            ("goes", 0, 0, (("now", 0, 1, -2), ("fall", 2, 2, 1), ("now", 0, 2, -1), ("rise", 0, 1, -1), ("rise", 0, 1, -1), ("rise", 0, 1, 1),
+                            ("fall", 1, 1, 0))),
+            ("goes", 0, 0, (("fall", 1, 1, 1), ("now", 0, 1, 0), ("fall", 2, 2, 0), ("now", 0, 2, -1), ("fall", 0, 0, -2), ("rise", 1, 0, -3),
+                            ("rise", 2, 1, -3)))))
+        begin = time.process_time()
+        for _ in range(200):
+            self.assertIs(games.can_hold(web, 0, (3, 6), 3), False)
+            self.assertEqual(games.right_answers(web, 0, (3, 6), 2)[0], (2, 1))
+            self.assertEqual(games.beating_moves(web, 0, (3, 6), 3), (1,))
+            self.assertEqual(games.least_moves(web, 0, (3, 6), 3), 1)
+            self.assertEqual(games.first_run(web, (0, (3, 6)), (0, 0, 0), 3), ((0, (3, 6)), ((0, (2, 1)), (0, (1, 0)), (0, (1, -1)))))
+            self.assertIs(games.can_follow(web, (3, 6), (0, 0, 0)), True)
+        # It takes some tenths of a second; with each value tried it took nine seconds.
+        self.assertLess(time.process_time() - begin, 4)
 
 
 if __name__ == "__main__":

@@ -1,10 +1,12 @@
 import random
+import time
 import unittest
 from itertools import combinations, product
 
 from heldalways import staying, wishes
 from heldalways.answers import is_answer, move_rows
 from heldalways.bounds import is_point_walk, walk_weight
+from heldalways.court import best_table
 from heldalways.errors import Refused
 from heldalways.tours import keeps_rows
 from heldalways.webs import Web
@@ -195,6 +197,26 @@ class Point46(Wishing):
         alone, pairs = staying.clashing(web, table, (0,) * 6, 0, (FAR, 2, FAR, 2, 2, None))
         self.assertEqual((alone, pairs), ((), ((1, 2), (1, 4), (1, 5), (2, 3), (3, 4), (3, 5))))
         self.assertEqual(staying.most_wishes(web, table, (0,) * 6, 0, (FAR, 2, FAR, 2, 2, None)), (2,) * 6)
+
+
+class Quickly(unittest.TestCase):
+    def test_many_walks(self):
+        # Most values asked are no walks at all: they are told at a glance.
+        web = Web(("a", "b", "c"), ("on",), (("up", 0, 0, (
+            ("now", 1, 2, -1), ("now", 2, 1, -1), ("rise", 1, 1, -1), ("fall", 2, 2, -2), ("now", 0, 3, -4), ("now", 3, 0, -9), ("rise", 3, 3, -2),
+            ("now", 2, 3, -6))),))
+        table = best_table(web)
+        told_walk = (web, table, (0, 0, 0), 0, (0, 9, None), 4)
+        begin = time.process_time()
+        for _ in range(2000):
+            for value in (None, [0, 4], (0, 4, 5), (0,), ("a", 5), (9, 4), (0, 1, 2, 3, 4, 5, 6), ()):
+                self.assertIs(wishes.is_far_walk(*told_walk, value), False)
+            self.assertIs(wishes.is_far_walk(*told_walk, (5, 4)), True)
+        for _ in range(500):
+            self.assertEqual(wishes.least_distance(*told_walk[:5]), 7)
+            self.assertEqual(wishes.near_answer(*told_walk[:5])[1], 2)
+        # It takes some hundredths of a second; with all rows made each time it took some tenths.
+        self.assertLess(time.process_time() - begin, 2)
 
 
 if __name__ == "__main__":
