@@ -25,6 +25,11 @@ def is_paper(web, value):
     return is_ring_paper(web, value) or is_pump(web, value)
 
 
+def is_paper_at(web, state, value):
+    """Whether any value is a right ring or pump whose place is reached from a state."""
+    return is_paper(web, value) and paper_state(web, value) in reached(web, state)
+
+
 def is_controller(web, value):
     return isinstance(value, Controller) and is_table(web, value.table)
 
@@ -38,7 +43,7 @@ def is_verdict(web, value):
 def is_verdict_at(web, state, value):
     if is_controller(web, value):
         return value.table[state] is not None
-    return is_paper(web, value) and paper_state(web, value) in reached(web, state)
+    return is_paper_at(web, state, value)
 
 
 def court(web):

@@ -1,12 +1,12 @@
 """The least room that is enough, and papers that show it."""
 
-from heldalways.court import Controller, holds_ever, is_paper, paper_state, verdict_at
+from heldalways.court import Controller, holds_ever, is_paper_at, verdict_at
 from heldalways.errors import Refused
 from heldalways.halving import least_from
 from heldalways.roompapers import beaten_to
 from heldalways.rooms import MOST_ROOM, is_enough, is_room_number, roomed_web, with_room
 from heldalways.tables import is_table
-from heldalways.webs import check_values, reached
+from heldalways.webs import check_values
 
 
 class RoomPaper:
@@ -22,11 +22,6 @@ def web_with_room(web, rooms, place, room):
     return roomed_web(web, with_room(rooms, place, room))
 
 
-def is_shown_at(web, state, paper):
-    """Whether any value is a right ring or pump whose place is reached from a state."""
-    return is_paper(web, paper) and paper_state(web, paper) in reached(web, state)
-
-
 def is_enough_table(web, state, table):
     return is_table(web, table) and table[state] is not None
 
@@ -36,14 +31,14 @@ def is_room_paper(web, rooms, place, state, value):
     if not isinstance(value, RoomPaper):
         return False
     if value.room is None:
-        return value.table is None and is_shown_at(widest, state, value.paper)
+        return value.table is None and is_paper_at(widest, state, value.paper)
     if not is_room_number(value.room):
         return False
     if not is_enough_table(web_with_room(web, rooms, place, value.room), state, value.table):
         return False
     if value.room == 0:
         return value.paper is None
-    return is_shown_at(web_with_room(web, rooms, place, value.room - 1), state, value.paper)
+    return is_paper_at(web_with_room(web, rooms, place, value.room - 1), state, value.paper)
 
 
 def first_unbeaten(web, rooms, place, state, room):
@@ -61,8 +56,8 @@ def least_enough(web, rooms, place, state, most):
     while low < most:
         # A paper often beats all numbers that are too small; if not, halving comes to the end, too.
         room = first_unbeaten(web, rooms, place, state, low)
-        if room == low:
-            return low
+        if room == low or room == most:
+            return room
         low = room
         middle = (low + most) // 2
         room = first_unbeaten(web, rooms, place, state, middle)

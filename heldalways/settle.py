@@ -31,14 +31,14 @@ def pump_made(nested):
     """
     items = nested.made
     for at in range(len(nested.inside), len(items)):
-        inside = {}
+        labels = {}
         for number in tours_in(items[at][6]):
             for label in nested.inside[number]:
-                inside[label] = nested.inside[number][label]
-            inside[items[number][:3]] = number
-        nested.inside.append(inside)
-        if items[at][:3] in inside:
-            return at, inside[items[at][:3]]
+                labels[label] = nested.inside[number][label]
+            labels[items[number][:3]] = number
+        nested.inside.append(labels)
+        if items[at][:3] in labels:
+            return at, labels[items[at][:3]]
     return None
 
 
