@@ -4,7 +4,7 @@ from heldalways.answers import move_rows
 from heldalways.court import holds_ever, verdict_at
 from heldalways.deeds import web_with_rule
 from heldalways.errors import Refused
-from heldalways.halving import greatest_up_to
+from heldalways.halving import greatest_up_to, least_from
 from heldalways.hidden import both_rows
 from heldalways.kinds import is_index
 from heldalways.solving import Solved, solution
@@ -43,8 +43,9 @@ def move_deed(sheet, move):
     return near_deed(sheet, move, sheet.said)
 
 
-def can_promise(sheet, move, rule):
-    return holds_ever(web_with_rule(sheet.web, move, rule), sheet.state, sheet.said)
+def can_promise(sheet, move, begun, weight):
+    """Whether a further rule, of which all but the weight is told, leaves the sheet open."""
+    return holds_ever(web_with_rule(sheet.web, move, (*begun, weight)), sheet.state, sheet.said)
 
 
 def heaviest_rule(sheet, move, kind, one, other):
@@ -55,7 +56,9 @@ def heaviest_rule(sheet, move, kind, one, other):
         raise Refused("rule")
     if len(web.moves[move][3]) == MOST_RULES:
         raise Refused("size")
-    if not can_promise(sheet, move, (kind, one, other, -MOST_WEIGHT)):
+    begun = (kind, one, other)
+    if can_promise(sheet, move, begun, 0):
+        return greatest_up_to(0, MOST_WEIGHT, lambda weight: can_promise(sheet, move, begun, weight))
+    if not can_promise(sheet, move, begun, -MOST_WEIGHT):
         return None
-    return greatest_up_to(
-        -MOST_WEIGHT, MOST_WEIGHT, lambda weight: can_promise(sheet, move, (kind, one, other, weight)))
+    return -least_from(1, MOST_WEIGHT, lambda size: can_promise(sheet, move, begun, -size))

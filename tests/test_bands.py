@@ -29,10 +29,12 @@ def flowing_web(draw):
     low = draw.randint(-2, 0)
     rules = [("rise", 1, 1, -draw.randint(0, slack), (1,)), ("fall", 1, 1, -slack, (-1,)), ("now", 0, 1, 0, (0,)),
              ("now", 1, 0, -draw.randint(2, 9), (draw.choice((0, 0, 1)),))]
+    more = draw.choice((0, 0, 1))
+    rules = [(*rule[:4], (*rule[4], draw.randint(-1, 0))[:1 + more]) for rule in rules]
     end = draw.randrange(2)
     back = ("back", end, 0, (), tuple([("now", 0, 1, draw.randint(-1, 2), ()), ("now", 1, 0, -draw.randint(2, 5), ()),
                                        ("rise", 1, 1, -draw.randint(0, 3), ()), ("fall", 1, 1, -draw.randint(0, 3), ())][:draw.randint(0, 4)]))
-    return AmountWeb(("x",), ("a", "b"), (("push", 0, end, ((low, low + draw.randint(0, 5)),), tuple(rules)), back))
+    return AmountWeb(("x",), ("a", "b"), (("push", 0, end, ((low, low + draw.randint(0, 5)), (0, 1))[:1 + more], tuple(rules)), back))
 
 
 class Point59(unittest.TestCase):
@@ -102,7 +104,7 @@ class Point59(unittest.TestCase):
         draw = random.Random(2)
         sizes = []
         for at in range(400):
-            web = flowing_web(draw) if at % 4 else random_amount_web(draw, draw.choice((1, 2)), 2, 1, 4)
+            web = flowing_web(draw) if at % 4 else random_amount_web(draw, draw.choice((1, 2)), 2, 2, 4)
             for move, place in ranged(web):
                 best = best_table(corner_web(web))
                 low, high = web.moves[move][3][place]
