@@ -69,6 +69,18 @@ class NearDeeds(Promises):
         wish = (10 ** 9 - 7, 10 ** 9 - 7)
         self.assertEqual(promises.near_deed(Sheet(both, 0, (10 ** 9 - 7, 0)), 0, wish), ("move", 0, (10 ** 9 - 7, 10 ** 9)))
 
+    def test_always_within_the_bound(self):
+        # With a wish, and a least distance from it, that are together at most 10^9.
+        draw = random.Random(4)
+        for sheet in open_sheets(draw, 60):
+            web = sheet.web
+            for move in [at for at, told_move in enumerate(web.moves) if told_move[1] == sheet.state]:
+                for size in (10 ** 9, 10 ** 9 - 3):
+                    wish = tuple([draw.choice((-size, size)) for _ in sheet.said])
+                    least = least_distance(web, best_table(web), sheet.said, move, wish)
+                    if least + max([0, *map(abs, wish)]) <= 10 ** 9:
+                        self.assertIs(is_deed(sheet, promises.near_deed(sheet, move, wish)), True)
+
     def test_by_trial(self):
         draw = random.Random(1)
         tried, near = 0, 0

@@ -98,6 +98,12 @@ class Repairs(unittest.TestCase):
             for prices in ((1,) * 11, None, (1,)):
                 refused("size", repairs.cheapest_bar, web, 0, (0,), prices)
                 refused("size", repairs.bar_price, web, 0, (0,), prices)
+            # The values come ahead of the size.
+            for call in (repairs.lean_bars, repairs.lean_strikes, repairs.fewest_strikes):
+                with self.assertRaises(InvalidValues):
+                    call(web, 0, (0, 0))
+            with self.assertRaises(InvalidValues):
+                repairs.cheapest_bar(web, 0, (None,), None)
         self.assertEqual((repairs.lean_strikes(ten, 0, (0,)), repairs.fewest_strikes(ten, 0, (0,))), (((),), 0))
         refused("size", repairs.lean_strikes, eleven, 0, (0,))
         refused("size", repairs.fewest_strikes, eleven, 0, (0,))
