@@ -13,20 +13,20 @@ def move_rows(web, table, move):
     # The rows told have the arcs between the ground's points, too: 0 on the diagonal.
     told = [[row[0], *[None] * many, *row[1:]] for row in table[end]]
     rows = [told[0], *[[None] * (2 * many + 1) for _ in range(many)], *told[1:]]
-    new = [0, *list(range(many + 1, 2 * many + 1))]
     for kind, one, other, weight in rules:
+        far = new_point(many, other)
         if kind == "fall":
-            row, at = rows[new[other]], one
+            row, at = rows[far], one
         else:
-            row, at = rows[one if kind == "rise" else new[one]], new[other]
+            row, at = rows[one if kind == "rise" else new_point(many, one)], far
         if row[at] is None or row[at] < weight:
             row[at] = weight
     return tuple([tuple(row) for row in rows])
 
 
-def point_of(many, side, number):
-    """The point of a move for the ground or a quantity, old or new."""
-    return number + many if side == "new" and number > 0 else number
+def new_point(many, number):
+    """The point of a move for the ground or the new value of a quantity."""
+    return number + many if number > 0 else 0
 
 
 def is_answer(web, table, values, move, value):

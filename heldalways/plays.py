@@ -67,14 +67,11 @@ def surge_behind(surge, state, said):
     """The attack behind the move of a surge."""
     items = surge.excursions
     inner = surge.nest[surge.place + 1]
-    numbers = tours_in(items[surge.nest[surge.place]][6])
     replaced = next_surge(surge)
-    if replaced is not None:
-        if is_too_heavy(items[inner], surge_weight(replaced), state, said):
-            return replaced
-        at = numbers.index(inner)
-        numbers = numbers[:at] + numbers[at + 1:]
-    return heavy_among(items, numbers, state, said)
+    # The surge weighs no less than the item in whose place it stands: if it is not too heavy, neither is this.
+    if replaced is not None and is_too_heavy(items[inner], surge_weight(replaced), state, said):
+        return replaced
+    return heavy_among(items, tours_in(items[surge.nest[surge.place]][6]), state, said)
 
 
 def attack_behind(web, state, values, attack, said):

@@ -29,11 +29,15 @@ def sight_table(web, sight):
         for state in range(len(web.states))])
 
 
+def lost_among(pairs, told, state, values):
+    """The pairs of a state at which values do not keep the table of the web of pairs."""
+    return [pair for at, pair in enumerate(pairs) if pair[0] == state and not keeps_table(told, at, values)]
+
+
 def lost_pairs(web, state, values, sight):
     """The pairs of a state at which values are not held for ever."""
     wide, pairs, _ = sight_web(web, sight)
-    told = best_table(wide)
-    return [pair for at, pair in enumerate(pairs) if pair[0] == state and not keeps_table(told, at, values)]
+    return lost_among(pairs, best_table(wide), state, values)
 
 
 def holds_seeing(web, state, values, sight):
@@ -55,10 +59,10 @@ def lost_script(web, state, values, sight):
 
 def seeing_run(web, position, script, sight):
     state, values = position
-    if lost_pairs(web, state, values, sight) != []:
-        raise Refused("held")
-    wide, _, _ = sight_web(web, sight)
+    wide, pairs, _ = sight_web(web, sight)
     told = best_table(wide)
+    if lost_among(pairs, told, state, values) != []:
+        raise Refused("held")
     # Which moves of the web of pairs come hangs on the script alone, not on what is said.
     ahead = scripts_ahead(web, end_state(web, state, script), sight)[0]
     silent = run_by(position, script, [values] * len(script))

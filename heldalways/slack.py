@@ -1,6 +1,6 @@
 """How much room the differences at a state have, and where what is lost does not come back."""
 
-from heldalways.answers import check_held, point_of
+from heldalways.answers import check_held, new_point
 from heldalways.behind import exact_rows, joint_rows
 from heldalways.bounds import heaviest
 from heldalways.hidden import both_rows
@@ -42,8 +42,8 @@ def heirs(web, table, move, one, other):
 def slack_range(web, table, values, move, one, other):
     check_held(web, table, values, move)
     best = heaviest(joint_rows(web, table, move, exact_rows(values)))
-    begin = point_of(len(values), "new", one)
-    last = point_of(len(values), "new", other)
+    begin = new_point(len(values), one)
+    last = new_point(len(values), other)
     entry = table[web.moves[move][2]][one][other]
     back = best[last][begin]
     return best[begin][last] - entry, None if back is None else -back - entry

@@ -1,6 +1,6 @@
 """Which wishes can be had at once."""
 
-from heldalways.answers import answer_ranges, move_rows, point_of, some_answer
+from heldalways.answers import answer_ranges, move_rows, new_point, some_answer
 from heldalways.bounds import heaviest
 
 
@@ -18,8 +18,8 @@ def alone_clashing(web, table, values, move, wish):
 
 def is_clash_of(best, many, wish, one, other):
     """Whether the greatest weights between two new points ask for more than the wishes give."""
-    begin = point_of(many, "new", one)
-    end = point_of(many, "new", other)
+    begin = new_point(many, one)
+    end = new_point(many, other)
     rise = wish[other - 1] - wish[one - 1]
     there, back = best[begin][end], best[end][begin]
     return there is not None and there > rise or back is not None and back > -rise

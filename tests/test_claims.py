@@ -112,6 +112,21 @@ class Point83(unittest.TestCase):
         answers = ((("said", (("x", 5), ("y", 6))), None), (("now", "b", (("x", 5), ("y", 6))), None), (("said", (("x", 5), ("y", 6))), None))
         self.assertEqual(claims.run_fault(wide, commands, answers), 0)
 
+    def test_distances(self):
+        # What is wished for can be had, so nothing beside it is right; or it cannot, on both sides of the ground.
+        for wish, nearest in ((4, 4), (9, 5), (-7, 2), (2, 2)):
+            for said in range(-9, 10):
+                answers = ((("said", (("level", said),)), None),)
+                fault = claims.run_fault(SHEET, (("wish", 0, (("level", wish),)),), answers)
+                self.assertEqual(fault, None if said == nearest else 0)
+        low = Sheet(Web(("x", "y"), ("a",), (("m", 0, 0, (("now", 1, 0, 3), ("now", 0, 1, -9), ("now", 0, 2, -4))),)), 0, (-5, -4))
+        for x in range(-9, 2):
+            for y in range(-6, 2):
+                answers = ((("said", (("x", x), ("y", y))), None),)
+                fault = claims.run_fault(low, (("wish", 0, (("x", -1), ("y", -3))),), answers)
+                # The nearest x is -3, two away; y may be as far.
+                self.assertEqual(fault, None if x == -3 and -4 <= y <= -1 else 0)
+
     def test_denials(self):
         may = (("may", 0, (("level", 1),)),)
         both = runs.run_with_papers(SHEET, (("may", 0, (("level", 6),)),))[0]

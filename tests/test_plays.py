@@ -158,6 +158,26 @@ class Point48(unittest.TestCase):
         self.assertGreater(broken, 100)
 
 
+class FromTheGround(unittest.TestCase):
+    def test_falling(self):
+        # A value falls with each move down to a bound: the pump's label goes from the ground to the quantity.
+        fall = Web(("level",), ("dry",), (("sun", 0, 0, (("fall", 1, 1, 1), ("now", 0, 1, -5))),))
+        one = (0, 0, 1, 1, -4, 0, (("ground", 0), ("rule", 1), ("rule", 0)))
+        two = (0, 0, 1, 2, -3, 0, (("ground", 0), ("tour", 0), ("rule", 0)))
+        pump = Pump((one, two), 1, 0)
+        self.assertIs(is_pump(fall, pump), True)
+        for level in (-5, -4, -3, -2, 0, 7, 1000, 10 ** 9):
+            self.assertIs(is_attack(fall, 0, (level,), March((), pump)), True)
+            attack, many = March((), pump), 0
+            while many < 60:
+                many += 1
+                if level <= -5:
+                    break
+                attack = plays.attack_behind(fall, 0, (level,), attack, (level - 1,))
+                level -= 1
+                self.assertIs(is_attack(fall, 0, (level,), attack), True)
+
+
 class Point49(unittest.TestCase):
     def test_example(self):
         rains = Surge((DAY, DAYS), (1, 0), 0, 5)

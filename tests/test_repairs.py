@@ -88,7 +88,7 @@ class Repairs(unittest.TestCase):
                 call(*told_values)
             self.assertEqual(caught.exception.word, word)
         step = ("m", 0, 0, (("rise", 1, 1, 0),))
-        ten = Web(("x",), ("a", "b"), (step,) * 10 + (("far", 1, 1, ()),) * 3)
+        ten = Web(("x",), ("a", "b"), (step,) * 10 + (("far", 1, 1, ()), ("far", 1, 0, ()), ("far", 1, 0, (("now", 0, 0, 0),))))
         eleven = Web(("x",), ("a", "b"), (step,) * 11)
         bridged = Web(("x",), ("a", "b"), (step,) * 9 + (("m", 0, 1, ()), ("m", 1, 1, ())))
         self.assertEqual(repairs.lean_bars(ten, 0, (0,)), ((),))
