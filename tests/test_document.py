@@ -1,5 +1,6 @@
 """The examples of the document, where it lies beside the project."""
 
+import builtins
 import doctest
 import pathlib
 import unittest
@@ -13,6 +14,8 @@ class Document(unittest.TestCase):
         examples = doctest.DocTestParser().get_doctest(DOCUMENT.read_text(), {}, "DOC", str(DOCUMENT), 0)
         found = []
         results = doctest.DocTestRunner().run(examples, out=found.append)
+        # What shows results keeps the last one among the builtins.
+        vars(builtins).pop("_", None)
         self.assertEqual(results.failed, 0, "".join(found))
         self.assertGreater(results.attempted, 100)
 
